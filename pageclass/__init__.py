@@ -1,0 +1,1 @@
+"""Pageclass: a virtual memory manager whose pages are shared until they are written."""

@@ -1,0 +1,61 @@
+"""Checks of arguments. Each takes anything, also objects without a hash or with an odd ==."""
+
+from pageclass.errors import NoFile, NoLock, NoPages, NoProcess, NotMapped, PastEnd
+from pageclass.pages import PAGES
+from pageclass.stores import shows_nothing
+
+
+def is_integer(value, low, high):
+    """Whether a value is an integer from low to high."""
+    return isinstance(value, int) and not isinstance(value, bool) and low <= value <= high
+
+
+def is_word(value, words):
+    """Whether a value is one of some strings."""
+    return isinstance(value, str) and value in words
+
+
+def require(valid, part):
+    """Raise NoPages with the name of a parameter that is not valid."""
+    if not valid:
+        raise NoPages(part)
+
+
+def table_of(system, process):
+    """The mapped pages of a living process, by their numbers."""
+    if not is_integer(process, 1, system.processes_made) or process not in system.tables:
+        raise NoProcess(process)
+    return system.tables[process]
+
+
+def numbers_of(first, count):
+    """The list of the numbers of a range of pages."""
+    require(is_integer(first, 0, PAGES - 1), "first")
+    require(is_integer(count, 1, PAGES - first), "count")
+    return list(range(first, first + count))
+
+
+def require_mapped(table, numbers):
+    """Raise NotMapped for the first of some pages that is not mapped."""
+    for number in numbers:
+        if number not in table:
+            raise NotMapped(number)
+
+
+def require_unlocked(table, numbers):
+    """Raise NoLock for the first locked one of some mapped pages."""
+    for number in numbers:
+        if "lock" in table[number].flags:
+            raise NoLock(number)
+
+
+def require_shown(system, number, page):
+    """Raise PastEnd if a page shows nothing."""
+    if shows_nothing(system, page):
+        raise PastEnd(number)
+
+
+def require_file(system, name):
+    """Raise NoFile if the argument is not the name of a file."""
+    if not isinstance(name, str) or name not in system.files:
+        raise NoFile(name)

@@ -1,0 +1,72 @@
+"""Items and mapped pages, and the numbers that bound them."""
+
+PAGES = 512
+CELLS = 4
+LAST_ADDRESS = 2047
+LAST_CELL = 255
+ZEROS = (0, 0, 0, 0)
+RIGHTS = ("none", "r", "rw")
+FLAGS = ("lock", "merge", "stay", "wipe")
+
+
+class Item:
+    """A stored content: a private class (without a source), an object page or a file page.
+
+    holders is the number of private pages that hold the class; only private classes have some.
+    """
+
+    def __init__(self, source, index, content):
+        self.source = source
+        self.index = index
+        self.content = content
+        self.holders = 0
+
+
+class Page:
+    """A mapped page: its attributes, and the private class that it holds (None if it holds none).
+
+    A page is never changed, only replaced: so what a step would do can be judged before it is done.
+    """
+
+    def __init__(self, rights, shared, source, index, flags, held):
+        self.rights = rights
+        self.shared = shared
+        self.source = source
+        self.index = index
+        self.flags = flags
+        self.held = held
+
+
+def with_rights(page, rights):
+    """The page with other rights."""
+    return Page(rights, page.shared, page.source, page.index, page.flags, page.held)
+
+
+def with_flags(page, flags):
+    """The page with other flags."""
+    return Page(page.rights, page.shared, page.source, page.index, flags, page.held)
+
+
+def with_held(page, held):
+    """The page with another private class, or untouched (None)."""
+    return Page(page.rights, page.shared, page.source, page.index, page.flags, held)
+
+
+def attributes(page):
+    """The attributes of a page, in the order in which a region lists them."""
+    return (page.rights, page.shared, page.source, page.index, page.flags)
+
+
+def has_object(page):
+    """Whether a page shows a page of an object."""
+    return page.shared and page.source[0] == "object"
+
+
+def has_file(page):
+    """Whether a page has a file as its source."""
+    return page.source is not None and page.source[0] == "file"
+
+
+def with_cell(content, cell, value):
+    """The content with another value in one cell."""
+    return content[:cell] + (value,) + content[cell + 1:]

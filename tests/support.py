@@ -1,0 +1,118 @@
+"""What the tests share."""
+
+from pageclass import errors
+from pageclass.pages import Item, Page, with_flags
+from pageclass.stores import replace_pages, shown, shows_nothing
+from pageclass.systems import System
+
+VALUES = {
+    "NoSystem": "part",
+    "NoProcess": "process",
+    "NoPages": "part",
+    "NotMapped": "page",
+    "NoRight": "page",
+    "PastEnd": "page",
+    "NoFile": "name",
+    "Taken": "name",
+    "NoLock": "page",
+    "NoStep": "at",
+}
+
+
+class Agreeable:
+    """Without a hash, and equal to everything."""
+
+    __hash__ = None
+
+    def __eq__(self, other):
+        return True
+
+
+class Prickly:
+    """Cannot be compared at all."""
+
+    __hash__ = None
+
+    def __eq__(self, other):
+        raise RuntimeError("compared")
+
+
+# No integer is among these.
+ODD = (True, False, "", "1", "frames", b"1", [], [1], {}, {1: 2}, {"a": []}, (), (1,), ([],),
+       {1, 2}, object(), len, int, ValueError("x"), Agreeable(), Prickly())
+# Nor is an integer, a bool, a string or None among these.
+STRANGE = tuple(value for value in ODD if not isinstance(value, (int, str)))
+
+
+def snapshot(value):
+    """All that a system is made of, for comparison with a later snapshot of it."""
+    if isinstance(value, (System, Page, Item)):
+        return id(value), snapshot(vars(value))
+    if isinstance(value, dict):
+        return [(key, snapshot(item)) for key, item in value.items()]
+    if isinstance(value, (list, tuple)):
+        return [snapshot(item) for item in value]
+    return value
+
+
+def refuses(case, system, error, value, step, *args, **named):
+    """The step raises this error with this value, and changes nothing."""
+    before = snapshot(system)
+    with case.assertRaises(errors.PageError) as caught:
+        step(system, *args, **named)
+    case.assertEqual(snapshot(system), before)
+    told = caught.exception
+    case.assertEqual(told.__class__.__name__, error)
+    if error in VALUES:
+        held = getattr(told, VALUES[error])
+        if isinstance(value, (int, str)):
+            case.assertEqual((type(held), held), (type(value), value))
+        else:
+            case.assertIs(held, value)
+
+
+def refuses_process(case, system, step, *args, **named):
+    """The step checks its process: of anything, and before any other argument."""
+    for process in ODD + (None, 0, -1, 99, 10 ** 30):
+        refuses(case, system, "NoProcess", process, step, process, *args, **named)
+
+
+def refuses_range(case, system, process, step, *args, **named):
+    """The step checks first and count: of anything, and before the later arguments."""
+    for first in ODD + (None, -1, 512, 513, 10 ** 30):
+        refuses(case, system, "NoPages", "first", step, process, first, 1, *args, **named)
+        refuses(case, system, "NoPages", "first", step, process, first, "x", *args, **named)
+    for count in ODD + (None, 0, -1, 513, 10 ** 30):
+        refuses(case, system, "NoPages", "count", step, process, 0, count, *args, **named)
+    refuses(case, system, "NoPages", "count", step, process, 1, 512, *args, **named)
+    refuses(case, system, "NoPages", "count", step, process, 511, 2, *args, **named)
+
+
+def give_file(system, name, contents):
+    """Make a file with these contents."""
+    source = ("file", name)
+    system.files[name] = [Item(source, index, cells) for index, cells in enumerate(contents)]
+
+
+def give_lock(system, process, number):
+    """Lock a page that holds a class."""
+    page = system.tables[process][number]
+    locked = tuple(sorted(page.flags + ("lock",)))
+    replace_pages(system, process, {number: with_flags(page, locked)})
+
+
+def touched(system):
+    """What was touched, in order: "private", ("object", number, index) or ("file", name, index)."""
+    told = []
+    for item in system.touches:
+        told.append("private" if item.source is None else item.source + (item.index,))
+    return told
+
+
+def cells(system, process, number):
+    """The content that a page shows, without a step (None if it shows nothing)."""
+    page = system.tables[process][number]
+    if shows_nothing(system, page):
+        return None
+    item = shown(system, page)
+    return (0, 0, 0, 0) if item is None else item.content

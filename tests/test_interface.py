@@ -1,0 +1,57 @@
+"""The names and arguments of the interface, and the file in which each is defined."""
+
+import importlib
+import inspect
+import unittest
+
+from pageclass.systems import System
+
+FUNCTIONS = {
+    "systems": {
+        "now": "(system)",
+        "spawn": "(system)",
+        "fork": "(system, process)",
+        "leave": "(system, process)",
+        "fresh": "(system, process)",
+        "processes": "(system)",
+    },
+    "spaces": {
+        "map_pages": "(system, process, count, *, rights='rw', shared=False, source=None, index=0, at=None)",
+        "unmap": "(system, process, first, count)",
+        "protect": "(system, process, first, count, rights)",
+        "flag": "(system, process, first, count, *, merge=None, stay=None, wipe=None)",
+        "move": "(system, process, first, count, to)",
+        "regions": "(system, process)",
+        "gap": "(system, process, count)",
+        "widest": "(system, process)",
+    },
+    "access": {
+        "read": "(system, process, address)",
+        "write": "(system, process, address, value)",
+        "need": "(system, process, first, count)",
+        "drop": "(system, process, first, count)",
+    },
+}
+
+
+class Interface(unittest.TestCase):
+
+    def test_the_functions_and_their_parameters(self):
+        for file, functions in FUNCTIONS.items():
+            module = importlib.import_module("pageclass." + file)
+            for name, parameters in functions.items():
+                function = getattr(module, name)
+                self.assertEqual(str(inspect.signature(function)), parameters, name)
+                self.assertEqual(function.__module__, module.__name__)
+
+    def test_system(self):
+        self.assertEqual(str(inspect.signature(System)), "(*, frames=None, slots=None, strict=False)")
+        self.assertEqual(System.__module__, "pageclass.systems")
+
+    def test_errors_stand_in_their_file(self):
+        from pageclass.errors import NoPages
+        self.assertEqual(NoPages.__module__, "pageclass.errors")
+
+
+if __name__ == "__main__":
+    unittest.main()
