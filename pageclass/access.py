@@ -1,17 +1,11 @@
 """Reads and writes of the cells of pages, and what else reaches the contents of a range."""
 
-from pageclass.checks import is_integer, numbers_of, require, require_mapped, require_shown
-from pageclass.checks import require_unlocked, table_of
-from pageclass.errors import NoRight
+from pageclass.checks import is_integer, numbers_of, require, require_mapped, require_right
+from pageclass.checks import require_shown, require_unlocked, table_of
+from pageclass.frames import put_content, touch
 from pageclass.limits import require_room
 from pageclass.pages import CELLS, LAST_ADDRESS, LAST_CELL, with_cell, with_held
-from pageclass.stores import end_step, item_to_write, makes_class, replace_pages, shown, touch
-
-
-def require_right(number, page, allowed):
-    """Raise NoRight if the rights of a page are not among the allowed ones."""
-    if page.rights not in allowed:
-        raise NoRight(number)
+from pageclass.stores import end_step, item_to_write, makes_class, replace_pages, shown
 
 
 def read(system, process, address):
@@ -44,7 +38,7 @@ def write(system, process, address, value):
         require_room(system)
     item = item_to_write(system, process, number)
     touch(system, item)
-    item.content = with_cell(item.content, cell, value)
+    put_content(system, item, with_cell(item.content, cell, value))
     end_step(system)
 
 

@@ -1,6 +1,6 @@
 """Checks of arguments. Each takes anything, also objects without a hash or with an odd ==."""
 
-from pageclass.errors import NoFile, NoLock, NoPages, NoProcess, NotMapped, PastEnd
+from pageclass.errors import NoFile, NoLock, NoPages, NoProcess, NoRight, NotMapped, PastEnd
 from pageclass.pages import PAGES
 from pageclass.stores import shows_nothing
 
@@ -8,6 +8,11 @@ from pageclass.stores import shows_nothing
 def is_integer(value, low, high):
     """Whether a value is an integer from low to high."""
     return isinstance(value, int) and not isinstance(value, bool) and low <= value <= high
+
+
+def is_natural(value):
+    """Whether a value is an integer from 0 on."""
+    return isinstance(value, int) and not isinstance(value, bool) and value >= 0
 
 
 def is_word(value, words):
@@ -26,6 +31,29 @@ def table_of(system, process):
     if not is_integer(process, 1, system.processes_made) or process not in system.tables:
         raise NoProcess(process)
     return system.tables[process]
+
+
+def require_processes(system, some):
+    """Raise NoProcess if the argument is not a tuple of distinct living processes (6.2)."""
+    if not isinstance(some, tuple):
+        raise NoProcess(some)
+    seen = {}
+    for process in some:
+        table_of(system, process)
+        if process in seen:
+            raise NoProcess(process)
+        seen[process] = True
+
+
+def page_at(system, place):
+    """The mapped page of a place (5.1)."""
+    if not isinstance(place, tuple) or len(place) != 2:
+        raise NotMapped(place)
+    process, number = place
+    table = table_of(system, process)
+    if not is_integer(number, 0, PAGES - 1) or number not in table:
+        raise NotMapped(number)
+    return table[number]
 
 
 def numbers_of(first, count):
@@ -49,13 +77,20 @@ def require_unlocked(table, numbers):
             raise NoLock(number)
 
 
+def require_right(number, page, allowed):
+    """Raise NoRight if the rights of a page are not among the allowed ones."""
+    if page.rights not in allowed:
+        raise NoRight(number)
+
+
 def require_shown(system, number, page):
     """Raise PastEnd if a page shows nothing."""
     if shows_nothing(system, page):
         raise PastEnd(number)
 
 
-def require_file(system, name):
-    """Raise NoFile if the argument is not the name of a file."""
+def file_of(system, name):
+    """The list of the pages of a file."""
     if not isinstance(name, str) or name not in system.files:
         raise NoFile(name)
+    return system.files[name]

@@ -19,30 +19,64 @@ def require_room(system):
         raise NoRoom("no frame and no slot is free")
 
 
-def charge_of(system, tables):
-    """What the charge is if the processes have these tables of pages (9.1)."""
-    charge = 0
-    # What counts once, however many pages there are: the holders of a class that cannot write it,
-    # by their class, and an object page, by its place in its object.
-    once = {}
-    for table in tables:
-        for page in table.values():
-            writable = page.rights == "rw"
-            if page.held is not None and not writable:
-                once[page.held] = True
-            elif has_object(page):
-                if writable or shown(system, page) is not None:
-                    once[(page.source, page.index)] = True
-            elif writable and not page.shared and not shows_nothing(system, page):
-                charge += 1
-    return charge + len(once)
+def unit_of_charge(system, place, page):
+    """The unit of the charge to which a page belongs, or None (9.1).
+
+    What counts once, however many pages there are, is named by the class, for its holders that
+    cannot write it, or by the place in its object; the unit of a page alone by the page's place.
+    """
+    writable = page.rights == "rw"
+    if page.held is not None and not writable:
+        return page.held
+    if has_object(page):
+        return (page.source, page.index) if writable or shown(system, page) is not None else None
+    return place if writable and not page.shared and not shows_nothing(system, page) else None
+
+
+def charge_units(system, tables):
+    """The units of the charge if the processes have these tables of pages (9.1).
+
+    Each unit has the processes to whose pages it is due, as the keys of a dict: it is there as long
+    as one of them is.
+    """
+    units = {}
+    for process, table in tables.items():
+        for number, page in table.items():
+            unit = unit_of_charge(system, (process, number), page)
+            if unit is not None:
+                due = units.setdefault(unit, {})
+                due[process] = True
+    return units
+
+
+def require_capacity(system, charge, before):
+    """Raise NoCharge if strict mode forbids that a step makes the charge so great (9.3)."""
+    if charge > capacity(system) and charge > before:
+        raise NoCharge("the charge would exceed frames and slots")
 
 
 def require_charge(system, process, table):
     """Raise NoCharge if strict mode forbids that a process, a new one too, has this table (9.3)."""
-    if not system.strict:
-        return
-    tables = {**system.tables, process: table}
-    charge = charge_of(system, list(tables.values()))
-    if charge > capacity(system) and charge > charge_of(system, list(system.tables.values())):
-        raise NoCharge("the charge would exceed frames and slots")
+    if system.strict:
+        tables = {**system.tables, process: table}
+        charge = len(charge_units(system, tables))
+        require_capacity(system, charge, len(charge_units(system, system.tables)))
+
+
+def require_charge_of_file(system, name, count):
+    """Raise NoCharge if strict mode forbids that a file gets so many pages (9.3)."""
+    if system.strict:
+        before = len(charge_units(system, system.tables))
+        require_capacity(system, before + untouched_up_to(system, name, count), before)
+
+
+def untouched_up_to(system, name, count):
+    """How many untouched pages that can be written are past the end of a file, but not of so many pages."""
+    end = len(system.files[name])
+    found = 0
+    for table in system.tables.values():
+        for page in table.values():
+            untouched = page.held is None and not page.shared and page.rights == "rw"
+            if untouched and page.source == ("file", name) and end <= page.index < count:
+                found += 1
+    return found

@@ -1,6 +1,7 @@
 """Items and mapped pages, and the numbers that bound them."""
 
 PAGES = 512
+FILE_PAGES = 64
 CELLS = 4
 LAST_ADDRESS = 2047
 LAST_CELL = 255
@@ -13,6 +14,7 @@ class Item:
     """A stored content: a private class (without a source), an object page or a file page.
 
     holders is the number of private pages that hold the class; only private classes have some.
+    on_disk is what the disk has of a file page; last_touch is the number of the last touch, 0 at first.
     """
 
     def __init__(self, source, index, content):
@@ -20,6 +22,8 @@ class Item:
         self.index = index
         self.content = content
         self.holders = 0
+        self.on_disk = content
+        self.last_touch = 0
 
 
 class Page:
@@ -55,6 +59,11 @@ def with_held(page, held):
 def attributes(page):
     """The attributes of a page, in the order in which a region lists them."""
     return (page.rights, page.shared, page.source, page.index, page.flags)
+
+
+def is_file_page(item):
+    """Whether an item is a page of a file."""
+    return item.source is not None and item.source[0] == "file"
 
 
 def has_object(page):

@@ -1,6 +1,6 @@
 """The pages of a process: mapping, attributes, regions and gaps."""
 
-from pageclass.checks import is_integer, is_word, numbers_of, require, require_file, require_mapped
+from pageclass.checks import file_of, is_integer, is_word, numbers_of, require, require_mapped
 from pageclass.checks import require_unlocked, table_of
 from pageclass.limits import require_charge
 from pageclass.pages import FLAGS, PAGES, RIGHTS, Page, attributes, with_flags, with_rights
@@ -15,7 +15,7 @@ def require_source(system, source, shared):
     kind, named = source
     require(is_word(kind, ("file", "object")), "source")
     if kind == "file":
-        require_file(system, named)
+        file_of(system, named)
     else:
         require(shared and is_integer(named, 1, system.objects_made) and named in system.objects, "source")
 

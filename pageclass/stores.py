@@ -1,11 +1,13 @@
-"""What a system keeps: which item a page shows, and when items come into being, are touched and go.
+"""What a system keeps: which item a page shows, and when items come into being and go.
 
 Of a system these functions use: tables (the pages of each process), objects (of each object the
 number of users of each of its pages), object_pages (the written ones, by object and index), files
 (of each file the list of its pages), classes (all private classes and written object pages, as the
-keys of a dict), and touches (the touched items in their order).
+keys of a dict), and touches (the touched items in their order). Where the items are kept is told in
+pageclass.frames.
 """
 
+from pageclass.frames import forget_class, touch
 from pageclass.pages import ZEROS, Item, has_file, has_object, with_held
 
 
@@ -25,11 +27,6 @@ def shown(system, page):
     if has_object(page):
         return system.object_pages.get((page.source[1], page.index))
     return system.files[page.source[1]][page.index]
-
-
-def touch(system, item):
-    """Note that an item is touched (7.1)."""
-    system.touches.append(item)
 
 
 def makes_class(system, page):
@@ -85,7 +82,7 @@ def discount_page(system, page):
     if held is not None:
         held.holders -= 1
         if held.holders == 0:
-            del system.classes[held]
+            forget_class(system, held)
     elif has_object(page):
         discount_user(system, page.source[1], page.index)
 
@@ -98,7 +95,7 @@ def discount_user(system, number, index):
         return
     del users[index]
     if (number, index) in system.object_pages:
-        del system.classes[system.object_pages[(number, index)]]
+        forget_class(system, system.object_pages[(number, index)])
         del system.object_pages[(number, index)]
     if len(users) == 0:
         del system.objects[number]

@@ -8,7 +8,7 @@ from pageclass.stores import end_step, replace_pages
 
 
 class System:
-    """A virtual memory; pageclass.stores says what is kept in it."""
+    """A virtual memory; pageclass.stores and pageclass.frames say what is kept in it."""
 
     def __init__(self, *, frames=None, slots=None, strict=False):
         if frames is not None and not is_integer(frames, 1, 64):
@@ -29,6 +29,8 @@ class System:
         self.files = {}
         self.classes = {}
         self.touches = []
+        self.memory = {}
+        self.swapped = {}
 
 
 def now(system):
@@ -46,6 +48,12 @@ def new_process(system):
 def unmap_all(system, process):
     """Unmap all pages of a process."""
     replace_pages(system, process, {number: None for number in system.tables[process]})
+
+
+def end_process(system, process):
+    """Unmap all pages of a process and end it."""
+    unmap_all(system, process)
+    del system.tables[process]
 
 
 def spawn(system):
@@ -75,8 +83,7 @@ def fork(system, process):
 def leave(system, process):
     """End a process (1.1)."""
     table_of(system, process)
-    unmap_all(system, process)
-    del system.tables[process]
+    end_process(system, process)
     end_step(system)
 
 

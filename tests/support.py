@@ -1,7 +1,9 @@
 """What the tests share."""
 
 from pageclass import errors
+from pageclass.files import create, write_page
 from pageclass.pages import Item, Page, with_flags
+from pageclass.sharing import count
 from pageclass.stores import replace_pages, shown, shows_nothing
 from pageclass.systems import System
 
@@ -90,8 +92,15 @@ def refuses_range(case, system, process, step, *args, **named):
 
 def give_file(system, name, contents):
     """Make a file with these contents."""
-    source = ("file", name)
-    system.files[name] = [Item(source, index, cells) for index, cells in enumerate(contents)]
+    create(system, name, len(contents))
+    for index, content in enumerate(contents):
+        if content != (0, 0, 0, 0):
+            write_page(system, name, index, content)
+
+
+def kept(system):
+    """How many private classes and written object pages there are."""
+    return sum(count(system)[:2])
 
 
 def give_lock(system, process, number):
@@ -101,12 +110,14 @@ def give_lock(system, process, number):
     replace_pages(system, process, {number: with_flags(page, locked)})
 
 
+def name_of(item):
+    """ "private", ("object", number, index) or ("file", name, index)."""
+    return "private" if item.source is None else item.source + (item.index,)
+
+
 def touched(system):
-    """What was touched, in order: "private", ("object", number, index) or ("file", name, index)."""
-    told = []
-    for item in system.touches:
-        told.append("private" if item.source is None else item.source + (item.index,))
-    return told
+    """The names of what was touched, in order."""
+    return [name_of(item) for item in system.touches]
 
 
 def cells(system, process, number):
@@ -116,3 +127,13 @@ def cells(system, process, number):
         return None
     item = shown(system, page)
     return (0, 0, 0, 0) if item is None else item.content
+
+
+def has_frame(system, process, number):
+    """Whether what a page shows is in memory."""
+    return shown(system, system.tables[process][number]) in system.memory
+
+
+def in_memory(system):
+    """The names of what is in memory, sorted."""
+    return sorted([name_of(item) for item in system.memory], key=str)

@@ -3,9 +3,10 @@
 import unittest
 
 from pageclass.access import drop, need, read, write
+from pageclass.files import read_page, truncate
 from pageclass.spaces import flag, map_pages, protect, regions, unmap
 from pageclass.systems import System, fork, leave, now, spawn
-from support import ODD, cells, give_file, give_lock, refuses, refuses_range, touched
+from support import ODD, cells, give_file, give_lock, kept, refuses, refuses_range, touched
 
 ZEROS = (0, 0, 0, 0)
 
@@ -87,7 +88,7 @@ class Reading(Case):
         give_file(self.s, "f", [(1, 2, 3, 4)])
         self.map(1, source=("file", "f"))
         write(self.s, self.p, 0, 9)
-        self.s.files["f"] = []
+        truncate(self.s, "f", 0)
         self.assertEqual(read(self.s, self.p, 1), 2)
         write(self.s, self.p, 1, 8)
         self.assertEqual(self.cells(0), [(9, 8, 3, 4)])
@@ -99,17 +100,17 @@ class Writing(Case):
 
     def test_an_untouched_page(self):
         self.map(1)
-        self.assertEqual(len(self.s.classes), 0)
+        self.assertEqual(kept(self.s), 0)
         write(self.s, self.p, 2, 5)
-        self.assertEqual((self.cells(0), len(self.s.classes)), ([(0, 0, 5, 0)], 1))
+        self.assertEqual((self.cells(0), kept(self.s)), ([(0, 0, 5, 0)], 1))
 
     def test_the_value_that_a_cell_has(self):
         self.map(1)
         write(self.s, self.p, 0, 0)
-        self.assertEqual((len(self.s.classes), touched(self.s)), (1, ["private"]))
+        self.assertEqual((kept(self.s), touched(self.s)), (1, ["private"]))
         c = fork(self.s, self.p)
         write(self.s, c, 0, 0)
-        self.assertEqual(len(self.s.classes), 2)
+        self.assertEqual(kept(self.s), 2)
 
     def test_the_only_holder_writes_in_place(self):
         self.map(1)
@@ -124,10 +125,10 @@ class Writing(Case):
         children = [fork(self.s, self.p) for _ in range(3)]
         for number, child in enumerate(children, 2):
             write(self.s, child, 1, number)
-            self.assertEqual(len(self.s.classes), number)
+            self.assertEqual(kept(self.s), number)
         self.assertEqual([cells(self.s, c, 0) for c in children], [(1, k, 0, 0) for k in (2, 3, 4)])
         write(self.s, self.p, 1, 9)
-        self.assertEqual((self.cells(0), len(self.s.classes)), ([(1, 9, 0, 0)], 4))
+        self.assertEqual((self.cells(0), kept(self.s)), ([(1, 9, 0, 0)], 4))
 
     def test_the_last_holder_writes_in_place(self):
         self.map(1)
@@ -155,8 +156,8 @@ class Writing(Case):
         c = fork(self.s, self.p)
         write(self.s, self.p, 5, 9)
         self.assertEqual((self.cells(1), cells(self.s, c, 1)), ([(1, 9, 3, 4)], (1, 2, 3, 4)))
-        self.assertEqual(self.s.files["f"][1].content, (1, 2, 3, 4))
-        self.assertEqual(len(self.s.classes), 1)
+        self.assertEqual(read_page(self.s, "f", 1), (1, 2, 3, 4))
+        self.assertEqual(kept(self.s), 1)
 
     def test_an_untouched_page_follows_its_file(self):
         give_file(self.s, "f", [(1, 2, 3, 4)])
@@ -170,11 +171,11 @@ class Writing(Case):
     def test_a_shared_page(self):
         self.map(1, shared=True)
         c = fork(self.s, self.p)
-        self.assertEqual(len(self.s.classes), 0)
+        self.assertEqual(kept(self.s), 0)
         write(self.s, c, 3, 5)
-        self.assertEqual((self.cells(0), len(self.s.classes)), ([(0, 0, 0, 5)], 1))
+        self.assertEqual((self.cells(0), kept(self.s)), ([(0, 0, 0, 5)], 1))
         write(self.s, self.p, 0, 6)
-        self.assertEqual((cells(self.s, c, 0), len(self.s.classes)), ((6, 0, 0, 5), 1))
+        self.assertEqual((cells(self.s, c, 0), kept(self.s)), ((6, 0, 0, 5), 1))
 
     def test_each_page_of_an_object_by_itself(self):
         self.map(3, shared=True)
@@ -189,9 +190,9 @@ class Writing(Case):
         self.map(2, shared=True)
         write(self.s, self.p, 0, 1)
         unmap(self.s, self.p, 0, 1)
-        self.assertEqual(len(self.s.classes), 0)
+        self.assertEqual(kept(self.s), 0)
         self.map(1, shared=True, source=("object", 1))
-        self.assertEqual((self.cells(0), len(self.s.classes)), ([ZEROS], 0))
+        self.assertEqual((self.cells(0), kept(self.s)), ([ZEROS], 0))
 
 
 class Needing(Case):
@@ -207,10 +208,11 @@ class Needing(Case):
         protect(self.s, self.p, 5, 1, "none")
         protect(self.s, self.p, 8, 1, "r")
         before = len(self.s.touches)
+        number = now(self.s)
         self.assertIsNone(need(self.s, self.p, 0, 10))
         self.assertEqual(touched(self.s)[before:], ["private", ("object", 1, 0), ("file", "f", 0), ("file", "f", 0),
                                                     ("file", "f", 1)])
-        self.assertEqual(now(self.s), 10)
+        self.assertEqual(now(self.s), number + 1)
 
     def test_pages_with_rights_none_are_passed_over(self):
         self.map(2)
@@ -230,7 +232,7 @@ class Needing(Case):
     def test_it_changes_nothing_else(self):
         self.map(512)
         need(self.s, self.p, 0, 512)
-        self.assertEqual((len(self.s.classes), touched(self.s)), (0, []))
+        self.assertEqual((kept(self.s), touched(self.s)), (0, []))
 
     def test_errors(self):
         self.map(1, at=1)
@@ -254,7 +256,8 @@ class Dropping(Case):
         self.assertIsNone(drop(self.s, self.p, 0, 3))
         self.assertEqual(self.cells(0, 1, 2), [ZEROS, ZEROS, (1, 2, 3, 4)])
         self.assertEqual(regions(self.s, self.p), before)
-        self.assertEqual((len(self.s.classes), len(self.s.touches)), (0, 4))
+        self.assertEqual((kept(self.s), touched(self.s)), (0, [("file", "f", 0), "private", "private", ("file", "f", 0),
+                                                               "private"]))
 
     def test_only_the_pages_of_the_range(self):
         self.map(3)

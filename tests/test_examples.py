@@ -2,10 +2,14 @@
 
 import unittest
 
-from pageclass.access import write
+from pageclass.access import read, write
 from pageclass.errors import NoCharge, NoRoom
-from pageclass.spaces import map_pages, regions
-from pageclass.systems import System, spawn
+from pageclass.exits import frees, share
+from pageclass.files import create, read_page, write_page
+from pageclass.merging import merge
+from pageclass.sharing import count, next_write, same
+from pageclass.spaces import flag, map_pages, regions
+from pageclass.systems import System, fork, spawn
 
 
 class Examples(unittest.TestCase):
@@ -17,6 +21,39 @@ class Examples(unittest.TestCase):
 
     def test_e01(self):
         self.assertEqual([self.a, regions(self.s, self.p)], [0, [(0, 2, "rw", False, None, None, ())]])
+
+    def test_e02(self):
+        self.assertIsNone(write(self.s, self.p, 5, 7))
+        c = fork(self.s, self.p)
+        self.assertEqual([next_write(self.s, (c, 1)), next_write(self.s, (self.p, 0)),
+                          same(self.s, (self.p, 1), (c, 1)), count(self.s)], ["copy", "zeros", True, (1, 0, 0)])
+
+    def test_e03(self):
+        write(self.s, self.p, 5, 7)
+        c = fork(self.s, self.p)
+        write(self.s, c, 5, 9)
+        self.assertEqual([read(self.s, self.p, 5), read(self.s, c, 5), next_write(self.s, (self.p, 1)), count(self.s)],
+                         [7, 9, "place", (2, 0, 0)])
+
+    def test_e06(self):
+        create(self.s, "f", 1)
+        m = map_pages(self.s, self.p, 1, source=("file", "f"))
+        write_page(self.s, "f", 0, (1, 2, 3, 4))
+        x = read(self.s, self.p, 4 * m)
+        write(self.s, self.p, 4 * m, 9)
+        self.assertEqual([m, x, read(self.s, self.p, 4 * m), read_page(self.s, "f", 0)], [2, 1, 9, (1, 2, 3, 4)])
+
+    def test_e07(self):
+        flag(self.s, self.p, 0, 2, merge=True)
+        write(self.s, self.p, 0, 5)
+        write(self.s, self.p, 4, 5)
+        self.assertEqual([same(self.s, (self.p, 0), (self.p, 1)), merge(self.s),
+                          same(self.s, (self.p, 0), (self.p, 1))], [False, 1, True])
+
+    def test_e08(self):
+        write(self.s, self.p, 5, 7)
+        c = fork(self.s, self.p)
+        self.assertEqual([share(self.s, self.p), frees(self.s, (self.p,)), frees(self.s, (self.p, c))], [(1, 2), 0, 1])
 
     def test_e09(self):
         t = System(frames=1, slots=1, strict=True)

@@ -31,6 +31,34 @@ FUNCTIONS = {
         "need": "(system, process, first, count)",
         "drop": "(system, process, first, count)",
     },
+    "files": {
+        "create": "(system, name, count)",
+        "files": "(system)",
+        "size": "(system, name)",
+        "read_page": "(system, name, index)",
+        "write_page": "(system, name, index, content)",
+        "truncate": "(system, name, count)",
+        "sync": "(system, name)",
+        "drop_cache": "(system)",
+        "disk": "(system, name)",
+        "crash": "(system)",
+    },
+    "merging": {
+        "merge": "(system)",
+    },
+    "sharing": {
+        "count": "(system)",
+        "same": "(system, one, other)",
+        "users": "(system, place)",
+        "next_write": "(system, place)",
+        "writes_of": "(system, places)",
+    },
+    "exits": {
+        "share": "(system, process)",
+        "frees": "(system, some)",
+        "least_exits": "(system, count)",
+        "exits_for": "(system, count)",
+    },
 }
 
 

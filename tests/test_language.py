@@ -10,6 +10,7 @@ FOLDER = os.path.dirname(pageclass.__file__)
 BUILTINS = ("len range enumerate zip min max sum abs sorted reversed int str bool bytes list tuple dict set frozenset "
             "isinstance ord repr any all divmod pow map iter next ValueError TypeError KeyError IndexError "
             "super type getattr hasattr setattr").split()
+LIBRARY = (("math", "gcd"), ("itertools", "combinations"))
 BARRED = (ast.AsyncFunctionDef, ast.AsyncFor, ast.AsyncWith, ast.Await, ast.Global, ast.Import)
 
 
@@ -43,7 +44,8 @@ class Language(unittest.TestCase):
         for name, text in sources():
             for node in ast.walk(ast.parse(text)):
                 if isinstance(node, ast.ImportFrom):
-                    self.assertEqual((node.level, node.module.split(".")[0]), (0, "pageclass"), name)
+                    if not all((node.module, alias.name) in LIBRARY for alias in node.names):
+                        self.assertEqual((node.level, node.module.split(".")[0]), (0, "pageclass"), name)
                     self.assertFalse([alias.name for alias in node.names if alias.asname or alias.name == "*"], name)
 
     def test_no_barred_statement_and_no_other_builtin(self):

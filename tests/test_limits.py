@@ -3,16 +3,17 @@
 import unittest
 
 from pageclass.access import drop, need, read, write
-from pageclass.limits import charge_of
+from pageclass.limits import charge_units
+from pageclass.files import truncate
 from pageclass.spaces import flag, map_pages, move, protect, regions, unmap
 from pageclass.systems import System, fork, fresh, leave, now, spawn
-from support import give_file, give_lock, refuses
+from support import give_file, give_lock, kept, refuses
 
 ZEROS = (0, 0, 0, 0)
 
 
 def charge(system):
-    return charge_of(system, list(system.tables.values()))
+    return len(charge_units(system, system.tables))
 
 
 class Room(unittest.TestCase):
@@ -98,7 +99,7 @@ class Room(unittest.TestCase):
             map_pages(s, p, 512)
             for number in range(512):
                 write(s, p, 4 * number + 3, 1)
-            self.assertEqual(len(s.classes), 512)
+            self.assertEqual(kept(s), 512)
 
     def test_without_strict_mode_nothing_is_charged(self):
         map_pages(self.s, self.p, 512)
@@ -143,7 +144,7 @@ class Charge(unittest.TestCase):
         give_file(self.s, "f", [ZEROS])
         map_pages(self.s, self.p, 1, source=("file", "f"))
         write(self.s, self.p, 0, 1)
-        self.s.files["f"] = []
+        truncate(self.s, "f", 0)
         self.assertEqual(charge(self.s), 1)
 
     def test_object_pages(self):
@@ -177,7 +178,7 @@ class Charge(unittest.TestCase):
                 write(self.s, process, 4 * page, 2)
                 read(self.s, process, 4 * page)
                 self.assertEqual(charge(self.s), before)
-        self.assertEqual(len(self.s.classes), before)
+        self.assertEqual(kept(self.s), before)
 
 
 class Strict(unittest.TestCase):
@@ -307,7 +308,7 @@ class Strict(unittest.TestCase):
         map_pages(self.s, c, 1)
         for process, page in ((c, 0), (c, 1), (c, 2), (self.p, 0), (self.p, 1)):
             write(self.s, process, 4 * page, 2)
-        self.assertEqual(len(self.s.classes), 4)
+        self.assertEqual(kept(self.s), 4)
 
 
 if __name__ == "__main__":

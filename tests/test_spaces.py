@@ -5,7 +5,7 @@ import unittest
 from pageclass.access import read, write
 from pageclass.spaces import flag, gap, map_pages, move, protect, regions, unmap, widest
 from pageclass.systems import System, fork, fresh, leave, spawn
-from support import ODD, cells, give_file, give_lock, refuses, refuses_range
+from support import ODD, cells, give_file, give_lock, kept, refuses, refuses_range
 
 ZEROS = (0, 0, 0, 0)
 
@@ -81,7 +81,7 @@ class Mapping(Case):
         self.assertEqual(self.map(3, rights="r", at=2), 2)
         self.assertEqual(self.regions(), [plain(0, 2), plain(2, 3, "r"), plain(5, 1)])
         self.assertEqual([read(self.s, self.p, 4 * k) for k in range(6)], [1, 2, 0, 0, 0, 6])
-        self.assertEqual(len(self.s.classes), 3)
+        self.assertEqual(kept(self.s), 3)
 
     def test_new_pages_have_no_flags(self):
         self.map(1)
@@ -173,7 +173,7 @@ class Sources(Case):
         self.map(1, source=("file", "f"))
         write(self.s, self.p, 0, 9)
         self.assertEqual([read(self.s, self.p, 0), read(self.s, self.p, 4)], [9, 9])
-        self.assertEqual(len(self.s.classes), 0)
+        self.assertEqual(kept(self.s), 0)
 
     def test_a_new_object_for_each_map(self):
         self.map(2, shared=True)
@@ -282,16 +282,16 @@ class Unmapping(Case):
         write(self.s, self.p, 0, 1)
         c = fork(self.s, self.p)
         unmap(self.s, self.p, 0, 1)
-        self.assertEqual(len(self.s.classes), 1)
+        self.assertEqual(kept(self.s), 1)
         unmap(self.s, c, 0, 1)
-        self.assertEqual(len(self.s.classes), 0)
+        self.assertEqual(kept(self.s), 0)
 
     def test_locked_pages(self):
         self.map(1)
         write(self.s, self.p, 0, 1)
         give_lock(self.s, self.p, 0)
         unmap(self.s, self.p, 0, 1)
-        self.assertEqual(len(self.s.classes), 0)
+        self.assertEqual(kept(self.s), 0)
 
     def test_errors(self):
         refuses_range(self, self.s, self.p, unmap)
@@ -399,7 +399,7 @@ class Moving(Case):
         c = fork(self.s, self.p)
         move(self.s, self.p, 0, 2, 2)
         self.assertEqual([read(self.s, self.p, a) for a in (8, 12)], [1, 2])
-        self.assertEqual(len(self.s.classes), 2)
+        self.assertEqual(kept(self.s), 2)
         write(self.s, self.p, 8, 3)
         self.assertEqual([read(self.s, c, 0), read(self.s, self.p, 8)], [1, 3])
         move(self.s, self.p, 2, 2, 0)
@@ -412,7 +412,7 @@ class Moving(Case):
         move(self.s, self.p, 3, 3, 0)
         self.assertEqual([read(self.s, self.p, 4 * k) for k in range(3)], [4, 5, 6])
         self.assertEqual(self.regions(), [plain(0, 3)])
-        self.assertEqual(len(self.s.classes), 3)
+        self.assertEqual(kept(self.s), 3)
 
     def test_over_a_page_of_the_same_class_or_object(self):
         self.map(1, shared=True)
@@ -422,7 +422,7 @@ class Moving(Case):
         self.assertEqual(read(self.s, self.p, 4), 5)
         move(self.s, self.p, 1, 1, 0)
         self.assertEqual(self.regions(), [(0, 1, "rw", True, ("object", 1), 0, ())])
-        self.assertEqual(len(self.s.classes), 1)
+        self.assertEqual(kept(self.s), 1)
 
     def test_half_the_pages_over_the_other_half(self):
         self.map(256)

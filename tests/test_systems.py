@@ -6,7 +6,7 @@ from pageclass.access import drop, need, read, write
 from pageclass.errors import NoSystem
 from pageclass.spaces import flag, gap, map_pages, move, protect, regions, unmap, widest
 from pageclass.systems import System, fork, fresh, leave, now, processes, spawn
-from support import ODD, cells, give_lock, refuses, refuses_process
+from support import ODD, cells, give_lock, kept, refuses, refuses_process
 
 
 class Parameters(unittest.TestCase):
@@ -111,7 +111,7 @@ class Processes(unittest.TestCase):
         self.assertIsNone(fresh(self.s, p))
         leave(self.s, c)
         self.assertEqual(processes(self.s), [p])
-        self.assertEqual(len(self.s.classes), 0)
+        self.assertEqual(kept(self.s), 0)
         map_pages(self.s, p, 2)
         self.assertEqual(read(self.s, p, 5), 0)
 
@@ -122,7 +122,7 @@ class Processes(unittest.TestCase):
             write(self.s, p, 0, 1)
             give_lock(self.s, p, 0)
             step(self.s, p)
-            self.assertEqual(len(self.s.classes), 0)
+            self.assertEqual(kept(self.s), 0)
 
     def test_no_process(self):
         p = spawn(self.s)
@@ -194,7 +194,7 @@ class Forks(unittest.TestCase):
         map_pages(self.s, self.p, 2)
         write(self.s, self.p, 1, 5)
         c = fork(self.s, self.p)
-        self.assertEqual(len(self.s.classes), 1)
+        self.assertEqual(kept(self.s), 1)
         self.assertEqual([read(self.s, c, a) for a in (0, 1, 4)], [0, 5, 0])
 
     def test_writes_behind_a_fork_are_not_seen_by_the_other(self):
@@ -242,7 +242,7 @@ class Forks(unittest.TestCase):
         self.assertEqual([read(self.s, self.p, 0), read(self.s, c, 0), read(self.s, c, 4)], [9, 0, 0])
         self.assertEqual(regions(self.s, c), [(0, 2, "rw", False, None, None, ("wipe",))])
         write(self.s, self.p, 0, 8)
-        self.assertEqual(len(self.s.classes), 1)
+        self.assertEqual(kept(self.s), 1)
 
     def test_wipe_of_a_shared_page_means_nothing(self):
         map_pages(self.s, self.p, 1, shared=True)

@@ -1,0 +1,42 @@
+"""Merging of private classes with equal contents."""
+
+from pageclass.pages import with_held
+from pageclass.stores import end_step, replace_pages
+from pageclass.systems import processes
+
+
+def classes_to_merge(system):
+    """The private classes of which a holder has the flag "merge", the one touched last ahead."""
+    found = {}
+    for table in system.tables.values():
+        for page in table.values():
+            if page.held is not None and "merge" in page.flags:
+                found[page.held] = True
+    return sorted(list(found), key=lambda item: item.last_touch, reverse=True)
+
+
+def heirs_of(classes):
+    """For each class that goes the one that is left, the first one with its content."""
+    left = {}
+    heirs = {}
+    for item in classes:
+        heir = left.setdefault(item.content, item)
+        if heir != item:
+            heirs[item] = heir
+    return heirs
+
+
+def merge(system):
+    """Leave one of the classes to merge with equal contents; return how many are gone (4.1)."""
+    # The class that is left is the one touched last. So it has the least position, and it is in
+    # memory if one of them is: a class leaves the memory only ahead of all that were touched later.
+    heirs = heirs_of(classes_to_merge(system))
+    for process in processes(system):
+        table = system.tables[process]
+        changes = {}
+        for number, page in table.items():
+            if page.held in heirs:
+                changes[number] = with_held(page, heirs[page.held])
+        replace_pages(system, process, changes)
+    end_step(system)
+    return len(heirs)

@@ -1,0 +1,512 @@
+"""A plain model of a system, which copies the contents of all written pages at each fork.
+
+It does a step on a copy of itself, counts charge, classes and users there from the beginning, and
+keeps the copy only if nothing forbids the step; its row of positions is that of 7.2, hole by hole.
+So it shares no shortcut with the program.
+"""
+
+import itertools
+from fractions import Fraction
+
+ZEROS = (0, 0, 0, 0)
+
+
+class Refused(Exception):
+
+    def __init__(self, name, value=None):
+        Exception.__init__(self, name)
+        self.name = name
+        self.value = value
+
+
+def whole(value, low, high):
+    return type(value) is int and low <= value <= high
+
+
+class Model:
+    """A page is a dict with its attributes, "cells" (None if untouched) and "key" (equal for the same class).
+
+    An item is ("private", key), ("object", number, index) or ("file", name, index).
+    """
+
+    def __init__(self, frames=None, slots=None, strict=False):
+        self.frames = frames
+        self.slots = slots
+        self.limit = None if frames is None or slots is None else frames + slots
+        self.strict = strict
+        self.tables = {}
+        self.written = {}
+        self.files = {}
+        self.disk = {}
+        self.row = []
+        self.memory = set()
+        self.touched = []
+        self.now = self.processes = self.objects = self.keys = 0
+
+    def copy(self):
+        other = Model(self.frames, self.slots, self.strict)
+        vars(other).update(vars(self))
+        other.tables = {process: {number: dict(page) for number, page in table.items()}
+                        for process, table in self.tables.items()}
+        other.written = dict(self.written)
+        other.files = {name: list(pages) for name, pages in self.files.items()}
+        other.disk = {name: list(pages) for name, pages in self.disk.items()}
+        other.row = list(self.row)
+        other.memory = set(self.memory)
+        other.touched = []
+        return other
+
+    def perform(self, name, *args, **named):
+        """Do a step, or raise Refused; touched tells afterwards what this step touched."""
+        trial = self.copy()
+        result = getattr(trial, name)(*args, **named)
+        trial.clear_away()
+        if name in ("map_pages", "protect", "fork", "truncate") and self.strict:
+            if trial.charge() > max(self.limit, self.charge()):
+                raise Refused("NoCharge")
+        if name == "write":
+            if self.limit is not None and trial.kept() > self.limit:
+                raise Refused("NoRoom")
+            result = None
+        trial.now += 1
+        vars(self).update(vars(trial))
+        return result
+
+    def clear_away(self):
+        """What nobody uses any more is gone."""
+        shown = self.shown_objects()
+        self.written = {key: cells for key, cells in self.written.items() if key in shown}
+        items = self.items()
+        self.row = [item if item in items else None for item in self.row]
+        self.memory &= items
+
+    def items(self):
+        return ({("private", key) for key in self.classes()} | {key[0] + (key[1],) for key in self.written}
+                | {("file", name, index) for name, pages in self.files.items() for index in range(len(pages))})
+
+    def pages(self):
+        return [page for table in self.tables.values() for page in table.values()]
+
+    def shown_objects(self):
+        return {(page["source"], page["index"]) for page in self.pages()}
+
+    def classes(self):
+        return {page["key"] for page in self.pages()} - {None}
+
+    def kept(self):
+        return len(self.classes()) + len(self.written)
+
+    def charge(self):
+        total = 0
+        for key in self.classes():
+            rights = [page["rights"] for page in self.pages() if page["key"] == key]
+            total += rights.count("rw") + (set(rights) != {"rw"})
+        for key in self.shown_objects():
+            if key[0] is not None and key[0][0] == "object":
+                rights = [page["rights"] for page in self.pages() if (page["source"], page["index"]) == key]
+                total += key in self.written or "rw" in rights
+        for page in self.pages():
+            total += (not page["shared"] and page["key"] is None and page["rights"] == "rw"
+                      and self.content(page) is not None)
+        return total
+
+    def content(self, page):
+        """What a page shows, or None."""
+        if page["cells"] is not None:
+            return page["cells"]
+        source, index = page["source"], page["index"]
+        if source is None:
+            return ZEROS
+        if source[0] == "object":
+            return self.written.get((source, index), ZEROS)
+        return self.files[source[1]][index] if index < len(self.files[source[1]]) else None
+
+    def item(self, page):
+        """The item that a page shows, or None."""
+        if page["key"] is not None:
+            return "private", page["key"]
+        source, index = page["source"], page["index"]
+        if source is None or source[0] == "object" and (source, index) not in self.written:
+            return None
+        if source[0] == "file" and index >= len(self.files[source[1]]):
+            return None
+        return source + (index,)
+
+    # Positions and memory
+
+    def touch(self, item):
+        self.touched.append(item)
+        if item in self.row:
+            self.row[self.row.index(item)] = None
+        hole = self.row.index(None) if None in self.row else len(self.row)
+        self.row[:hole + 1] = [item] + self.row[:hole]
+        if item not in self.memory:
+            self.come(item)
+        if self.slots is None and self.frames is not None:
+            assert self.memory == set(self.row[:self.frames]) - {None}
+
+    def come(self, item):
+        if self.frames is not None and len(self.memory) >= self.frames:
+            outside = [other for other in self.items() if other[0] != "file" and other not in self.memory
+                       and other != item]
+            for other in reversed(self.row):
+                if other in self.memory:
+                    if other[0] == "file" or self.slots is None or len(outside) < self.slots:
+                        self.memory.remove(other)
+                        self.write_back(other)
+                        break
+            else:
+                return
+        self.memory.add(item)
+
+    def write_back(self, item):
+        if item[0] == "file":
+            self.disk[item[1]][item[2]] = self.files[item[1]][item[2]]
+
+    def change_file_page(self, item, cells):
+        self.files[item[1]][item[2]] = cells
+        if item not in self.memory:
+            self.write_back(item)
+
+    # Arguments
+
+    def table(self, process):
+        if type(process) is not int or process not in self.tables:
+            raise Refused("NoProcess", process)
+        return self.tables[process]
+
+    def check(self, valid, part):
+        if not valid:
+            raise Refused("NoPages", part)
+
+    def file(self, name):
+        if type(name) is not str or name not in self.files:
+            raise Refused("NoFile", name)
+        return self.files[name]
+
+    def range(self, first, count):
+        self.check(whole(first, 0, 511), "first")
+        self.check(whole(count, 1, 512 - first), "count")
+        return range(first, first + count)
+
+    def mapped(self, table, numbers):
+        for number in numbers:
+            if number not in table:
+                raise Refused("NotMapped", number)
+
+    def unlocked(self, table, numbers):
+        for number in numbers:
+            if "lock" in table[number]["flags"]:
+                raise Refused("NoLock", number)
+
+    # Processes and regions
+
+    def spawn(self):
+        self.processes += 1
+        self.tables[self.processes] = {}
+        return self.processes
+
+    def fork(self, process):
+        table = self.table(process)
+        child = self.spawn()
+        for number, page in table.items():
+            if "stay" not in page["flags"]:
+                self.tables[child][number] = dict(page, flags=page["flags"] - {"lock"})
+                if "wipe" in page["flags"]:
+                    self.tables[child][number].update(cells=None, key=None)
+        return child
+
+    def leave(self, process):
+        self.table(process)
+        del self.tables[process]
+
+    def fresh(self, process):
+        self.table(process).clear()
+
+    def map_pages(self, process, count, *, rights="rw", shared=False, source=None, index=0, at=None):
+        table = self.table(process)
+        self.check(whole(count, 1, 512), "count")
+        self.check(rights in ("none", "r", "rw"), "rights")
+        self.check(type(shared) is bool, "shared")
+        if source is not None and source[0] == "file":
+            self.file(source[1])
+        elif source is not None:
+            self.check(shared and source in [page["source"] for page in self.pages()], "source")
+        self.check(whole(index, 0, 512 - count) and (index == 0 or source is not None), "index")
+        if at is None:
+            at = self.gap(table, count)
+        self.check(whole(at, 0, 512 - count), "at")
+        if shared and source is None:
+            self.objects += 1
+            source = ("object", self.objects)
+        for k in range(count):
+            table[at + k] = {"rights": rights, "shared": shared, "source": source, "flags": frozenset(),
+                             "index": None if source is None else index + k, "cells": None, "key": None}
+        return at
+
+    def gap(self, table, count):
+        for first in range(513 - count):
+            if not any(first + k in table for k in range(count)):
+                return first
+        return None
+
+    def unmap(self, process, first, count):
+        table = self.table(process)
+        for number in self.range(first, count):
+            table.pop(number, None)
+
+    def protect(self, process, first, count, rights):
+        table = self.table(process)
+        numbers = self.range(first, count)
+        self.check(rights in ("none", "r", "rw"), "rights")
+        self.mapped(table, numbers)
+        if rights != "rw":
+            self.unlocked(table, numbers)
+        for number in numbers:
+            table[number]["rights"] = rights
+
+    def flag(self, process, first, count, **flags):
+        table = self.table(process)
+        numbers = self.range(first, count)
+        for name in ("merge", "stay", "wipe"):
+            self.check(flags.get(name) in (None, False, True), name)
+        self.mapped(table, numbers)
+        for number in numbers:
+            for name, value in flags.items():
+                if value is not None:
+                    old = table[number]["flags"]
+                    table[number]["flags"] = old | {name} if value else old - {name}
+
+    def move(self, process, first, count, to):
+        table = self.table(process)
+        numbers = self.range(first, count)
+        self.check(whole(to, 0, 512 - count) and not set(numbers) & set(range(to, to + count)), "to")
+        self.mapped(table, numbers)
+        for number in numbers:
+            table[to + number - first] = table.pop(number)
+
+    # Contents
+
+    def access(self, process, number, rights):
+        table = self.tables[process]
+        self.mapped(table, [number])
+        if table[number]["rights"] not in rights:
+            raise Refused("NoRight", number)
+        if self.content(table[number]) is None:
+            raise Refused("PastEnd", number)
+        return table[number]
+
+    def read(self, process, address):
+        self.table(process)
+        self.check(whole(address, 0, 2047), "address")
+        page = self.access(process, address // 4, ("r", "rw"))
+        if self.item(page) is not None:
+            self.touch(self.item(page))
+        return self.content(page)[address % 4]
+
+    def write(self, process, address, value):
+        """Write, and return what that did (5.3), which perform does not return."""
+        self.table(process)
+        self.check(whole(address, 0, 2047), "address")
+        self.check(whole(value, 0, 255), "value")
+        page = self.access(process, address // 4, ("rw",))
+        new = list(self.content(page))
+        new[address % 4] = value
+        return (self.write_shared if page["shared"] else self.write_private)(page, tuple(new))
+
+    def write_shared(self, page, new):
+        key = (page["source"], page["index"])
+        if page["source"][0] == "object":
+            effect = "place" if key in self.written else "zeros"
+            self.written[key] = new
+            self.touch(self.item(page))
+            return effect
+        self.touch(self.item(page))
+        self.change_file_page(self.item(page), new)
+        return "place"
+
+    def write_private(self, page, new):
+        effect = "place"
+        old = self.item(page)
+        if page["key"] is None or [other["key"] for other in self.pages()].count(page["key"]) > 1:
+            effect = "zeros" if old is None else "file" if page["key"] is None else "copy"
+            if old is not None:
+                self.touch(old)
+            self.keys += 1
+            page["key"] = self.keys
+        page["cells"] = new
+        self.touch(self.item(page))
+        return effect
+
+    def need(self, process, first, count):
+        table = self.table(process)
+        numbers = self.range(first, count)
+        self.mapped(table, numbers)
+        for number in numbers:
+            item = self.item(table[number])
+            if table[number]["rights"] != "none" and item is not None:
+                self.touch(item)
+
+    def drop(self, process, first, count):
+        table = self.table(process)
+        numbers = self.range(first, count)
+        self.mapped(table, numbers)
+        self.unlocked(table, numbers)
+        for number in numbers:
+            table[number].update(cells=None, key=None)
+
+    # Files and merging
+
+    def create(self, name, count):
+        if type(name) is not str or not name.isascii() or not name.isalpha() or not name.islower() or len(name) > 8:
+            raise Refused("NoFile", name)
+        if name in self.files:
+            raise Refused("Taken", name)
+        self.check(whole(count, 0, 64), "count")
+        self.files[name] = [ZEROS] * count
+        self.disk[name] = [ZEROS] * count
+
+    def read_page(self, name, index):
+        pages = self.file(name)
+        self.check(whole(index, 0, len(pages) - 1), "index")
+        self.touch(("file", name, index))
+        return pages[index]
+
+    def write_page(self, name, index, content):
+        pages = self.file(name)
+        self.check(whole(index, 0, len(pages) - 1), "index")
+        self.check(type(content) is tuple and len(content) == 4 and all(whole(cell, 0, 255) for cell in content),
+                   "content")
+        self.touch(("file", name, index))
+        self.change_file_page(("file", name, index), content)
+
+    def truncate(self, name, count):
+        self.file(name)
+        self.check(whole(count, 0, 64), "count")
+        for kept in (self.files, self.disk):
+            kept[name] = (kept[name] + [ZEROS] * 64)[:count] if count > len(kept[name]) else kept[name][:count]
+
+    def sync(self, name):
+        self.file(name)
+        self.disk[name] = list(self.files[name])
+
+    def drop_cache(self):
+        for name in self.files:
+            self.sync(name)
+        self.forget_file_pages()
+
+    def crash(self):
+        self.tables.clear()
+        self.files = {name: list(pages) for name, pages in self.disk.items()}
+        self.forget_file_pages()
+
+    def forget_file_pages(self):
+        self.memory = {item for item in self.memory if item[0] != "file"}
+        self.row = [None if item is not None and item[0] == "file" else item for item in self.row]
+
+    def merge(self):
+        equal = {}
+        for page in self.pages():
+            if page["key"] is not None and "merge" in page["flags"]:
+                equal.setdefault(page["cells"], set()).add(page["key"])
+        gone = 0
+        for keys in equal.values():
+            self.merge_keys(keys)
+            gone += len(keys) - 1
+        return gone
+
+    def merge_keys(self, keys):
+        """One of the keys is left, whichever it is."""
+        left = min(keys)
+        for page in self.pages():
+            if page["key"] in keys:
+                page["key"] = left
+        items = {("private", key) for key in keys}
+        places = [at for at, item in enumerate(self.row) if item in items]
+        for at in places:
+            self.row[at] = None
+        self.row[places[0]] = ("private", left)
+        if self.memory & items:
+            self.memory = self.memory - items | {("private", left)}
+
+    # Questions
+
+    def regions(self, process):
+        rows = []
+        table = self.tables[process]
+        for number in sorted(table):
+            page = table[number]
+            flags = tuple(sorted(page["flags"]))
+            row = [number, 1, page["rights"], page["shared"], page["source"], page["index"], flags]
+            last = rows[-1] if rows else None
+            if last is not None and last[0] + last[1] == number and last[2:5] == row[2:5] and last[6] == flags:
+                if page["source"] is None or last[5] + last[1] == page["index"]:
+                    last[1] += 1
+                    continue
+            rows.append(row)
+        return [tuple(row) for row in rows]
+
+    def widest(self, process):
+        return max([count for count in range(1, 513) if self.gap(self.tables[process], count) is not None], default=0)
+
+    def count(self):
+        cached = {self.item(page) for page in self.pages()}
+        return len(self.classes()), len(self.written), len([item for item in cached if item and item[0] == "file"])
+
+    def places(self):
+        return sorted((process, number) for process, table in self.tables.items() for number in table)
+
+    def shown_at(self, place):
+        return self.item(self.tables[place[0]][place[1]])
+
+    def users(self, place):
+        item = self.shown_at(place)
+        return [] if item is None else [other for other in self.places() if self.shown_at(other) == item]
+
+    def next_write(self, place):
+        try:
+            return self.copy().write(place[0], 4 * place[1], 0)
+        except Refused:
+            return None
+
+    def writes_of(self, places):
+        """Do the writes, in the given order."""
+        trial = self.copy()
+        effects = [trial.write(process, 4 * number, 0) for process, number in places]
+        return effects.count("zeros"), effects.count("copy"), effects.count("file")
+
+    def without(self, some):
+        trial = self.copy()
+        for process in some:
+            trial.leave(process)
+        trial.clear_away()
+        return trial
+
+    def frees(self, some):
+        return self.kept() - self.without(some).kept()
+
+    def share(self, process):
+        """The mean, over all orders in which the processes exit, of what the exit of this one frees."""
+        orders = list(itertools.permutations(self.tables))
+        freed = {}
+        total = Fraction(0)
+        for order in orders:
+            before = tuple(sorted(order[:order.index(process)]))
+            if before not in freed:
+                freed[before] = self.frees(before + (process,)) - self.frees(before)
+            total += freed[before]
+        mean = total / len(orders)
+        return mean.numerator, mean.denominator
+
+    def least(self, reaches):
+        for many in range(len(self.tables) + 1):
+            for some in itertools.combinations(sorted(self.tables), many):
+                if reaches(some):
+                    return some
+        return None
+
+    def least_exits(self, count):
+        return self.least(lambda some: self.frees(some) >= count)
+
+    def exits_for(self, count):
+        return self.least(lambda some: self.charge() - self.without(some).charge() >= count)
