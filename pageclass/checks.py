@@ -1,7 +1,7 @@
 """Checks of arguments. Each takes anything, also objects without a hash or with an odd ==."""
 
-from pageclass.errors import NoFile, NoLock, NoPages, NoProcess, NoRight, NotMapped, PastEnd
-from pageclass.pages import PAGES
+from pageclass.errors import NoFile, NoHistory, NoLock, NoPages, NoProcess, NoRight, NotMapped, PastEnd
+from pageclass.pages import MOST_FRAMES, PAGES
 from pageclass.stores import shows_nothing
 
 
@@ -94,3 +94,14 @@ def file_of(system, name):
     if not isinstance(name, str) or name not in system.files:
         raise NoFile(name)
     return system.files[name]
+
+
+def require_frames(system, frames):
+    """Raise NoPages if the history is not told for so many frames (7.3)."""
+    require(is_integer(frames, system.history.most_locked + 1, MOST_FRAMES), "frames")
+
+
+def require_history(system):
+    """Raise NoHistory if a crash has ended the history (7.3)."""
+    if system.history.crashed:
+        raise NoHistory("a crash has ended the history")

@@ -2,7 +2,7 @@
 
 from pageclass.checks import file_of, is_integer, require
 from pageclass.errors import NoFile, Taken
-from pageclass.frames import forget_cached, put_content, touch, write_back
+from pageclass.frames import forget_cached, put_content, save, touch
 from pageclass.limits import require_charge_of_file
 from pageclass.pages import CELLS, FILE_PAGES, LAST_CELL, ZEROS, Item
 from pageclass.stores import end_step
@@ -92,14 +92,14 @@ def truncate(system, name, count):
 def sync(system, name):
     """Write all dirty pages of a file back to the disk (3.3)."""
     for item in file_of(system, name):
-        write_back(item)
+        save(system, item)
     end_step(system)
 
 
 def drop_cache(system):
     """Write all dirty pages of all files back; all of them leave the cache (3.3)."""
     for item in all_file_pages(system):
-        write_back(item)
+        save(system, item)
         forget_cached(system, item)
     end_step(system)
 
@@ -116,4 +116,5 @@ def crash(system):
     for item in all_file_pages(system):
         item.content = item.on_disk
         forget_cached(system, item)
+    system.history.crashed = True
     end_step(system)

@@ -49,24 +49,28 @@ def charge_units(system, tables):
     return units
 
 
-def require_capacity(system, charge, before):
+def charge_of(system, tables):
+    """The charge if the processes have these tables of pages (9.1)."""
+    return len(charge_units(system, tables))
+
+
+def require_capacity(system, after, before):
     """Raise NoCharge if strict mode forbids that a step makes the charge so great (9.3)."""
-    if charge > capacity(system) and charge > before:
+    if after > capacity(system) and after > before:
         raise NoCharge("the charge would exceed frames and slots")
 
 
 def require_charge(system, process, table):
     """Raise NoCharge if strict mode forbids that a process, a new one too, has this table (9.3)."""
     if system.strict:
-        tables = {**system.tables, process: table}
-        charge = len(charge_units(system, tables))
-        require_capacity(system, charge, len(charge_units(system, system.tables)))
+        after = charge_of(system, {**system.tables, process: table})
+        require_capacity(system, after, charge_of(system, system.tables))
 
 
 def require_charge_of_file(system, name, count):
     """Raise NoCharge if strict mode forbids that a file gets so many pages (9.3)."""
     if system.strict:
-        before = len(charge_units(system, system.tables))
+        before = charge_of(system, system.tables)
         require_capacity(system, before + untouched_up_to(system, name, count), before)
 
 

@@ -6,13 +6,13 @@ from pageclass.systems import processes
 
 
 def classes_to_merge(system):
-    """The private classes of which a holder has the flag "merge", the one touched last ahead."""
+    """The private classes of which a holder has the flag "merge", by their positions."""
     found = {}
     for table in system.tables.values():
         for page in table.values():
             if page.held is not None and "merge" in page.flags:
                 found[page.held] = True
-    return sorted(list(found), key=lambda item: item.last_touch, reverse=True)
+    return sorted(list(found), key=lambda item: item.position)
 
 
 def heirs_of(classes):
@@ -28,8 +28,8 @@ def heirs_of(classes):
 
 def merge(system):
     """Leave one of the classes to merge with equal contents; return how many are gone (4.1)."""
-    # The class that is left is the one touched last. So it has the least position, and it is in
-    # memory if one of them is: a class leaves the memory only ahead of all that were touched later.
+    # The class that is left is the one with the least position. So it is locked if one of them is,
+    # and in memory if one of them is: what leaves is the class in memory with the greatest position.
     heirs = heirs_of(classes_to_merge(system))
     for process in processes(system):
         table = system.tables[process]
@@ -38,5 +38,7 @@ def merge(system):
             if page.held in heirs:
                 changes[number] = with_held(page, heirs[page.held])
         replace_pages(system, process, changes)
+    if len(heirs) > 0:
+        system.history.merged = True
     end_step(system)
     return len(heirs)

@@ -2,6 +2,7 @@
 
 PAGES = 512
 FILE_PAGES = 64
+MOST_FRAMES = 999
 CELLS = 4
 LAST_ADDRESS = 2047
 LAST_CELL = 255
@@ -13,17 +14,27 @@ FLAGS = ("lock", "merge", "stay", "wipe")
 class Item:
     """A stored content: a private class (without a source), an object page or a file page.
 
-    holders is the number of private pages that hold the class; only private classes have some.
-    on_disk is what the disk has of a file page; last_touch is the number of the last touch, 0 at first.
+    position is its position (7.2), None if it has none. holders is the number of private pages that
+    hold the class, and locks the number of the locked ones; only private classes have some.
+
+    The rest is about file pages. dirty tells whether the cache has what the disk has not, on_disk
+    what the disk has. The same for systems with any number of frames (7.3): there the page is dirty
+    from dirty_from frames on (None: it is clean everywhere), saved is what all their disks had at
+    one time, and saved_with what was written back since, by the number of frames.
     """
 
     def __init__(self, source, index, content):
         self.source = source
         self.index = index
         self.content = content
+        self.position = None
         self.holders = 0
+        self.locks = 0
+        self.dirty = False
         self.on_disk = content
-        self.last_touch = 0
+        self.dirty_from = None
+        self.saved = content
+        self.saved_with = {}
 
 
 class Page:

@@ -26,8 +26,11 @@ def same(system, one, other):
 def users(system, place):
     """The sorted list of the users of what a place shows (5.2)."""
     item = shown(system, page_at(system, place))
-    if item is None:
-        return []
+    return [] if item is None else users_of(system, item)
+
+
+def users_of(system, item):
+    """The sorted list of the places that show an item."""
     found = []
     for process, table in system.tables.items():
         for number, page in table.items():

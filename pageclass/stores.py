@@ -3,12 +3,13 @@
 Of a system these functions use: tables (the pages of each process), objects (of each object the
 number of users of each of its pages), object_pages (the written ones, by object and index), files
 (of each file the list of its pages), classes (all private classes and written object pages, as the
-keys of a dict), and touches (the touched items in their order). Where the items are kept is told in
-pageclass.frames.
+keys of a dict), and locked_pages (the number of pages with the flag "lock"). Where the items are
+kept is told in pageclass.frames, which positions they have in pageclass.rows.
 """
 
 from pageclass.frames import forget_class, touch
 from pageclass.pages import ZEROS, Item, has_file, has_object, with_held
+from pageclass.rows import arrange_locked
 
 
 def shows_nothing(system, page):
@@ -71,9 +72,17 @@ def count_page(system, page):
     held = page.held
     if held is not None:
         held.holders += 1
+        count_lock(system, page, 1)
     elif has_object(page):
         users = system.objects.setdefault(page.source[1], {})
         users[page.index] = users.get(page.index, 0) + 1
+
+
+def count_lock(system, page, by):
+    """Add a number to the locked pages, if a page is one; it holds a class then."""
+    if "lock" in page.flags:
+        page.held.locks += by
+        system.locked_pages += by
 
 
 def discount_page(system, page):
@@ -81,6 +90,7 @@ def discount_page(system, page):
     held = page.held
     if held is not None:
         held.holders -= 1
+        count_lock(system, page, -1)
         if held.holders == 0:
             forget_class(system, held)
     elif has_object(page):
@@ -122,4 +132,5 @@ def replace_pages(system, process, changes):
 
 def end_step(system):
     """Give the step that succeeds its number (0.4)."""
+    arrange_locked(system.history)
     system.steps_made += 1

@@ -4,11 +4,12 @@ from pageclass.checks import is_integer, table_of
 from pageclass.errors import NoSystem
 from pageclass.limits import require_charge
 from pageclass.pages import with_flags, with_held
+from pageclass.rows import History
 from pageclass.stores import end_step, replace_pages
 
 
 class System:
-    """A virtual memory; pageclass.stores and pageclass.frames say what is kept in it."""
+    """A virtual memory; pageclass.stores, frames and rows say what is kept in it."""
 
     def __init__(self, *, frames=None, slots=None, strict=False):
         if frames is not None and not is_integer(frames, 1, 64):
@@ -28,9 +29,13 @@ class System:
         self.object_pages = {}
         self.files = {}
         self.classes = {}
-        self.touches = []
+        self.locked_pages = 0
         self.memory = {}
         self.swapped = {}
+        self.faults = 0
+        self.swap_outs = 0
+        self.write_backs = 0
+        self.history = History()
 
 
 def now(system):
@@ -69,10 +74,14 @@ def child_page(page):
     return with_held(with_flags(page, tuple([flag for flag in page.flags if flag != "lock"])), held)
 
 
+def pages_of_child(table):
+    """The pages of a child for those of its process."""
+    return {number: child_page(page) for number, page in table.items() if "stay" not in page.flags}
+
+
 def fork(system, process):
     """Make a child of a process and return its number (1.5)."""
-    table = table_of(system, process)
-    pages = {number: child_page(page) for number, page in table.items() if "stay" not in page.flags}
+    pages = pages_of_child(table_of(system, process))
     require_charge(system, system.processes_made + 1, pages)
     child = new_process(system)
     replace_pages(system, child, pages)

@@ -101,3 +101,12 @@ class Draw:
                 if self.often(0.4):
                     named[word] = self.one(True, word == "merge", None)
         return args, named
+
+
+class View:
+    """What Draw looks at of a system: its processes and their pages, and how many of each were made."""
+
+    def __init__(self, system):
+        self.tables = system.tables
+        self.processes = system.processes_made
+        self.objects = system.objects_made

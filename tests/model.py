@@ -40,7 +40,13 @@ class Model:
         self.disk = {}
         self.row = []
         self.memory = set()
+        self.dirty = set()
+        self.lives = {}
         self.touched = []
+        self.log = []
+        self.counts = {"faults": 0, "swap_outs": 0, "write_backs": 0}
+        self.most_slots = 0
+        self.crashed = self.merged = False
         self.now = self.processes = self.objects = self.keys = 0
 
     def copy(self):
@@ -53,6 +59,9 @@ class Model:
         other.disk = {name: list(pages) for name, pages in self.disk.items()}
         other.row = list(self.row)
         other.memory = set(self.memory)
+        other.dirty = set(self.dirty)
+        other.lives = dict(self.lives)
+        other.counts = dict(self.counts)
         other.touched = []
         return other
 
@@ -69,6 +78,7 @@ class Model:
                 raise Refused("NoRoom")
             result = None
         trial.now += 1
+        trial.log = self.log + trial.touched
         vars(self).update(vars(trial))
         return result
 
@@ -79,6 +89,8 @@ class Model:
         items = self.items()
         self.row = [item if item in items else None for item in self.row]
         self.memory &= items
+        self.dirty &= items
+        self.lives = {item: self.lives[item] if item in self.lives else self.now for item in items}
 
     def items(self):
         return ({("private", key) for key in self.classes()} | {key[0] + (key[1],) for key in self.written}
@@ -134,37 +146,53 @@ class Model:
 
     # Positions and memory
 
+    def position(self, item):
+        return self.row.index(item) + 1 if item is not None and item in self.row else None
+
     def touch(self, item):
-        self.touched.append(item)
-        if item in self.row:
-            self.row[self.row.index(item)] = None
+        """Touch an item; touched has each one with its position, and what tells whether it is the same one later."""
+        position = self.position(item)
+        self.touched.append((item, position, self.lives.get(item, self.now)))
+        if item not in self.memory:
+            self.counts["faults"] += position is not None
+            self.come(item)
+        if position is not None:
+            self.row[position - 1] = None
         hole = self.row.index(None) if None in self.row else len(self.row)
         self.row[:hole + 1] = [item] + self.row[:hole]
-        if item not in self.memory:
-            self.come(item)
+        self.most_slots = max(self.most_slots, len([other for other in self.row if self.has_slot(other)]))
         if self.slots is None and self.frames is not None:
             assert self.memory == set(self.row[:self.frames]) - {None}
 
+    def has_slot(self, item):
+        return item is not None and item[0] != "file" and item not in self.memory
+
     def come(self, item):
         if self.frames is not None and len(self.memory) >= self.frames:
-            outside = [other for other in self.items() if other[0] != "file" and other not in self.memory
-                       and other != item]
+            outside = [other for other in self.row if self.has_slot(other) and other != item]
             for other in reversed(self.row):
                 if other in self.memory:
                     if other[0] == "file" or self.slots is None or len(outside) < self.slots:
-                        self.memory.remove(other)
-                        self.write_back(other)
+                        self.leave_memory(other)
                         break
             else:
                 return
         self.memory.add(item)
 
+    def leave_memory(self, item):
+        self.memory.remove(item)
+        self.counts["swap_outs"] += item[0] != "file"
+        self.write_back(item)
+
     def write_back(self, item):
-        if item[0] == "file":
+        if item in self.dirty:
+            self.dirty.remove(item)
             self.disk[item[1]][item[2]] = self.files[item[1]][item[2]]
+            self.counts["write_backs"] += 1
 
     def change_file_page(self, item, cells):
         self.files[item[1]][item[2]] = cells
+        self.dirty.add(item)
         if item not in self.memory:
             self.write_back(item)
 
@@ -387,8 +415,8 @@ class Model:
             kept[name] = (kept[name] + [ZEROS] * 64)[:count] if count > len(kept[name]) else kept[name][:count]
 
     def sync(self, name):
-        self.file(name)
-        self.disk[name] = list(self.files[name])
+        for index in range(len(self.file(name))):
+            self.write_back(("file", name, index))
 
     def drop_cache(self):
         for name in self.files:
@@ -398,6 +426,8 @@ class Model:
     def crash(self):
         self.tables.clear()
         self.files = {name: list(pages) for name, pages in self.disk.items()}
+        self.dirty = set()
+        self.crashed = True
         self.forget_file_pages()
 
     def forget_file_pages(self):
@@ -413,16 +443,17 @@ class Model:
         for keys in equal.values():
             self.merge_keys(keys)
             gone += len(keys) - 1
+        self.merged = self.merged or gone > 0
         return gone
 
     def merge_keys(self, keys):
-        """One of the keys is left, whichever it is."""
-        left = min(keys)
+        """The key with the least position is left."""
+        items = {("private", key) for key in keys}
+        places = [at for at, item in enumerate(self.row) if item in items]
+        left = self.row[places[0]][1]
         for page in self.pages():
             if page["key"] in keys:
                 page["key"] = left
-        items = {("private", key) for key in keys}
-        places = [at for at, item in enumerate(self.row) if item in items]
         for at in places:
             self.row[at] = None
         self.row[places[0]] = ("private", left)
@@ -474,6 +505,62 @@ class Model:
         trial = self.copy()
         effects = [trial.write(process, 4 * number, 0) for process, number in places]
         return effects.count("zeros"), effects.count("copy"), effects.count("file")
+
+    def at_position(self, number):
+        item = self.row[number - 1] if number <= len(self.row) else None
+        if item is None or item[0] != "private":
+            return item
+        return "private", [place for place in self.places() if self.shown_at(place) == item]
+
+    def distances(self):
+        return [position for item, position, life in self.log]
+
+    def working(self, count):
+        return len({(item, life) for item, position, life in self.log[max(0, len(self.log) - count):]})
+
+    def able(self, process):
+        """The places of a process that can be written."""
+        return [(process, number) for number in sorted(self.tables[process])
+                if self.next_write((process, number)) is not None]
+
+    def makes(self, places):
+        """How many classes writes of some places make, in the given order, without regard to room."""
+        return len([1 for process, number in places if self.write(process, 4 * number, 0) != "place"])
+
+    def reserve(self, random):
+        """How many writes that make a class are possible, in some order, as often as there are any."""
+        trial = self.copy()
+        trial.limit = trial.frames = None
+        many = 0
+        places = [place for process in sorted(self.tables) for place in self.able(process)]
+        while True:
+            able = [place for place in places if trial.next_write(place) != "place"]
+            if not able:
+                return many
+            many += trial.makes([random.choice(able)])
+
+    def reserve_of(self, process):
+        others = [place for other in sorted(self.tables) if other != process for place in self.able(other)]
+        first, last = self.copy(), self.copy()
+        first.limit = last.limit = first.frames = last.frames = None
+        last.makes(others)
+        return last.makes(last.able(process)), first.makes(first.able(process))
+
+    def forks_that_fit(self, process):
+        if self.limit is None:
+            return None
+        trial = self.copy()
+        trial.strict = True
+        before = trial.charge()
+        many = 0
+        try:
+            while True:
+                trial.perform("fork", process)
+                if trial.charge() == before:
+                    return None
+                many += 1
+        except Refused:
+            return many
 
     def without(self, some):
         trial = self.copy()

@@ -2,7 +2,9 @@
 
 from pageclass import errors
 from pageclass.files import create, write_page
+from pageclass.frames import touch
 from pageclass.pages import Item, Page, with_flags
+from pageclass.rows import History, arrange_locked
 from pageclass.sharing import count
 from pageclass.stores import replace_pages, shown, shows_nothing
 from pageclass.systems import System
@@ -46,14 +48,18 @@ ODD = (True, False, "", "1", "frames", b"1", [], [1], {}, {1: 2}, {"a": []}, (),
 STRANGE = tuple(value for value in ODD if not isinstance(value, (int, str)))
 
 
-def snapshot(value):
-    """All that a system is made of, for comparison with a later snapshot of it."""
-    if isinstance(value, (System, Page, Item)):
-        return id(value), snapshot(vars(value))
+def snapshot(value, seen=None):
+    """All that a system is made of, for comparison with a later snapshot of it; each object is opened once."""
+    seen = set() if seen is None else seen
+    if isinstance(value, (System, Page, Item, History)):
+        if id(value) in seen:
+            return id(value)
+        seen.add(id(value))
+        return id(value), snapshot(vars(value), seen)
     if isinstance(value, dict):
-        return [(key, snapshot(item)) for key, item in value.items()]
+        return [(snapshot(key, seen), snapshot(item, seen)) for key, item in value.items()]
     if isinstance(value, (list, tuple)):
-        return [snapshot(item) for item in value]
+        return [snapshot(item, seen) for item in value]
     return value
 
 
@@ -106,8 +112,10 @@ def kept(system):
 def give_lock(system, process, number):
     """Lock a page that holds a class."""
     page = system.tables[process][number]
+    touch(system, page.held)
     locked = tuple(sorted(page.flags + ("lock",)))
     replace_pages(system, process, {number: with_flags(page, locked)})
+    arrange_locked(system.history)
 
 
 def name_of(item):
@@ -117,7 +125,7 @@ def name_of(item):
 
 def touched(system):
     """The names of what was touched, in order."""
-    return [name_of(item) for item in system.touches]
+    return [name_of(item) for item in system.history.touches]
 
 
 def cells(system, process, number):
@@ -134,6 +142,16 @@ def has_frame(system, process, number):
     return shown(system, system.tables[process][number]) in system.memory
 
 
-def in_memory(system):
+def cached(system):
     """The names of what is in memory, sorted."""
     return sorted([name_of(item) for item in system.memory], key=str)
+
+
+def asks_place(case, system, process, unmapped, question, *args, before=()):
+    """The question checks its place (5.1): of anything, and ahead of what follows it."""
+    for place in ODD + (None, (), (process,), (process, 0, 0), [process, 0], process):
+        refuses(case, system, "NotMapped", place, question, *before, place, *args)
+    for item in ODD + (None, 0, -1, 99, 10 ** 3000):
+        refuses(case, system, "NoProcess", item, question, *before, (item, -1), *args)
+    for number in ODD + (None, -1, 512, unmapped, 10 ** 3000):
+        refuses(case, system, "NotMapped", number, question, *before, (process, number), *args)

@@ -207,7 +207,7 @@ class Needing(Case):
         write(self.s, self.p, 8, 1)
         protect(self.s, self.p, 5, 1, "none")
         protect(self.s, self.p, 8, 1, "r")
-        before = len(self.s.touches)
+        before = len(self.s.history.touches)
         number = now(self.s)
         self.assertIsNone(need(self.s, self.p, 0, 10))
         self.assertEqual(touched(self.s)[before:], ["private", ("object", 1, 0), ("file", "f", 0), ("file", "f", 0),
@@ -220,7 +220,7 @@ class Needing(Case):
         write(self.s, self.p, 4, 2)
         protect(self.s, self.p, 0, 1, "none")
         need(self.s, self.p, 0, 2)
-        self.assertEqual(self.s.touches[2:], [self.s.tables[self.p][1].held])
+        self.assertEqual(self.s.history.touches[2:], [self.s.tables[self.p][1].held])
 
     def test_a_class_is_touched_for_each_page(self):
         self.map(1)
@@ -322,7 +322,7 @@ class Touches(Case):
         self.map(1, shared=True)
         for address in (0, 0, 4, 4):
             write(self.s, self.p, address, 1)
-        self.assertEqual(self.s.touches, self.items(0, 0) + [self.s.object_pages[(1, 0)]] * 2)
+        self.assertEqual(self.s.history.touches, self.items(0, 0) + [self.s.object_pages[(1, 0)]] * 2)
 
     def test_a_copy_touches_the_old_class_first(self):
         self.map(1)
@@ -332,16 +332,16 @@ class Touches(Case):
         write(self.s, self.p, 0, 2)
         [new] = self.items(0)
         self.assertIsNot(new, old)
-        self.assertEqual(self.s.touches, [old, old, new])
+        self.assertEqual(self.s.history.touches, [old, old, new])
 
     def test_a_copy_of_a_file_page_touches_it_first(self):
         give_file(self.s, "f", [ZEROS, ZEROS])
         self.map(1, source=("file", "f"), index=1)
         self.map(1, source=("file", "f"), index=1, shared=True)
         write(self.s, self.p, 0, 1)
-        self.assertEqual(self.s.touches, [self.s.files["f"][1]] + self.items(0))
+        self.assertEqual(self.s.history.touches, [self.s.files["f"][1]] + self.items(0))
         write(self.s, self.p, 4, 1)
-        self.assertEqual(self.s.touches[2:], [self.s.files["f"][1]])
+        self.assertEqual(self.s.history.touches[2:], [self.s.files["f"][1]])
 
     def test_a_copy_of_a_locked_page_touches_the_new_class_once(self):
         self.map(1)
@@ -349,8 +349,8 @@ class Touches(Case):
         give_lock(self.s, self.p, 0)
         fork(self.s, self.p)
         write(self.s, self.p, 0, 2)
-        self.assertEqual(len(self.s.touches), 3)
-        self.assertEqual(self.s.touches[2:], self.items(0))
+        self.assertEqual(len(self.s.history.touches), 4)
+        self.assertEqual(self.s.history.touches[3:], self.items(0))
 
     def test_nothing_else_touches(self):
         self.map(3)

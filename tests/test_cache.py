@@ -8,7 +8,7 @@ from pageclass.merging import merge
 from pageclass.sharing import count
 from pageclass.spaces import flag, map_pages, regions, unmap
 from pageclass.systems import System, fork, fresh, leave, now, processes, spawn
-from support import has_frame, in_memory, kept, refuses, touched
+from support import cached, has_frame, kept, refuses, touched
 
 ZEROS = (0, 0, 0, 0)
 ONES = (1, 1, 1, 1)
@@ -74,9 +74,9 @@ class WritingBack(Case):
         self.dirty(0)
         before = touched(self.s)
         sync(self.s, "f")
-        self.assertEqual(in_memory(self.s), [page(0)])
+        self.assertEqual(cached(self.s), [page(0)])
         drop_cache(self.s)
-        self.assertEqual((touched(self.s), in_memory(self.s)), (before, []))
+        self.assertEqual((touched(self.s), cached(self.s)), (before, []))
 
     def test_drop_cache_writes_the_pages_of_all_files(self):
         self.make()
@@ -86,17 +86,17 @@ class WritingBack(Case):
         read_page(self.s, "f", 1)
         self.write(0)
         self.assertIsNone(drop_cache(self.s))
-        self.assertEqual((self.on_disk(), disk(self.s, "g"), in_memory(self.s)), ([3], [ONES], ["private"]))
+        self.assertEqual((self.on_disk(), disk(self.s, "g"), cached(self.s)), ([3], [ONES], ["private"]))
         self.assertEqual(read_page(self.s, "f", 3), ONES)
 
     def test_a_dirty_page_that_is_truncated_is_not_written_back(self):
         self.make()
         self.dirty(0, 1, 7)
         truncate(self.s, "f", 1)
-        self.assertEqual((disk(self.s, "f"), in_memory(self.s)), ([ZEROS], [page(0)]))
+        self.assertEqual((disk(self.s, "f"), cached(self.s)), ([ZEROS], [page(0)]))
         truncate(self.s, "f", 8)
         sync(self.s, "f")
-        self.assertEqual((self.on_disk(), in_memory(self.s)), ([0], [page(0)]))
+        self.assertEqual((self.on_disk(), cached(self.s)), ([0], [page(0)]))
 
     def test_truncate_leaves_what_is_dirty(self):
         self.make()
@@ -110,7 +110,7 @@ class WritingBack(Case):
         self.make(slots=0)
         self.dirty(*range(8))
         self.write(*range(8))
-        self.assertEqual((self.on_disk(), len(in_memory(self.s))), ([], 16))
+        self.assertEqual((self.on_disk(), len(cached(self.s))), ([], 16))
 
     def test_disk_and_no_file(self):
         self.make()
@@ -126,16 +126,16 @@ class Leaving(Case):
         self.dirty(0, 1)
         self.assertEqual(self.on_disk(), [])
         self.dirty(2)
-        self.assertEqual((self.on_disk(), in_memory(self.s)), ([0], [page(1), page(2)]))
+        self.assertEqual((self.on_disk(), cached(self.s)), ([0], [page(1), page(2)]))
         read_page(self.s, "f", 1)
         read_page(self.s, "f", 3)
-        self.assertEqual((self.on_disk(), in_memory(self.s)), ([0, 2], [page(1), page(3)]))
+        self.assertEqual((self.on_disk(), cached(self.s)), ([0, 2], [page(1), page(3)]))
 
     def test_nothing_leaves_for_what_is_in_memory(self):
         self.make(frames=2)
         self.dirty(0, 1, 1, 0, 0)
         read_page(self.s, "f", 1)
-        self.assertEqual((self.on_disk(), in_memory(self.s)), ([], [page(0), page(1)]))
+        self.assertEqual((self.on_disk(), cached(self.s)), ([], [page(0), page(1)]))
 
     def test_each_touch_counts(self):
         self.make(frames=2)
@@ -148,7 +148,7 @@ class Leaving(Case):
             read_page(self.s, "f", 1)
             touch()
             read_page(self.s, "f", 2)
-            self.assertEqual(in_memory(self.s), [page(0), page(2)])
+            self.assertEqual(cached(self.s), [page(0), page(2)])
 
     def test_a_page_comes_back_as_it_was(self):
         self.make(frames=1)
@@ -164,18 +164,18 @@ class Leaving(Case):
         self.make(frames=2)
         self.dirty(0, 1)
         self.write(0)
-        self.assertEqual((self.on_disk(), in_memory(self.s)), ([0], [page(1), "private"]))
+        self.assertEqual((self.on_disk(), cached(self.s)), ([0], [page(1), "private"]))
         map_pages(self.s, self.p, 1, shared=True, at=1)
         self.write(1)
-        self.assertEqual((self.on_disk(), in_memory(self.s)), ([0, 1], [("object", 1, 0), "private"]))
+        self.assertEqual((self.on_disk(), cached(self.s)), ([0, 1], [("object", 1, 0), "private"]))
 
     def test_pages_push_classes_into_slots(self):
         self.make(frames=2, slots=2)
         self.write(0, 1)
         self.dirty(0, 1)
-        self.assertEqual(in_memory(self.s), [page(0), page(1)])
+        self.assertEqual(cached(self.s), [page(0), page(1)])
         self.assertEqual((read(self.s, self.p, 0), read(self.s, self.p, 4)), (1, 1))
-        self.assertEqual((self.on_disk(), in_memory(self.s)), ([0, 1], ["private"] * 2))
+        self.assertEqual((self.on_disk(), cached(self.s)), ([0, 1], ["private"] * 2))
 
     def test_a_class_without_a_slot_stays(self):
         self.make(frames=2, slots=0)
@@ -183,24 +183,24 @@ class Leaving(Case):
         self.dirty(0)
         self.assertEqual(self.on_disk(), [])
         self.dirty(1)
-        self.assertEqual((self.on_disk(), in_memory(self.s)), ([0], [page(1), "private"]))
+        self.assertEqual((self.on_disk(), cached(self.s)), ([0], [page(1), "private"]))
         self.write(1)
-        self.assertEqual((self.on_disk(), in_memory(self.s)), ([0, 1], ["private"] * 2))
+        self.assertEqual((self.on_disk(), cached(self.s)), ([0, 1], ["private"] * 2))
 
     def test_the_only_slot_is_taken(self):
         self.make(frames=2, slots=1)
         self.write(0, 1)
         self.dirty(0)
-        self.assertEqual(in_memory(self.s), [page(0), "private"])
+        self.assertEqual(cached(self.s), [page(0), "private"])
         self.dirty(1)
-        self.assertEqual((self.on_disk(), in_memory(self.s)), ([0], [page(1), "private"]))
+        self.assertEqual((self.on_disk(), cached(self.s)), ([0], [page(1), "private"]))
 
     def test_the_slot_of_the_class_that_comes_is_free(self):
         self.make(frames=2, slots=1)
         self.write(0, 1, 2)
         for number in (0, 1, 2, 0, 1, 2, 1, 0, 0, 2):
             self.assertEqual(read(self.s, self.p, 4 * number), 1)
-            self.assertEqual(in_memory(self.s), ["private"] * 2)
+            self.assertEqual(cached(self.s), ["private"] * 2)
             self.assertTrue(has_frame(self.s, self.p, number))
 
     def test_the_slot_of_a_class_that_came_back_is_free(self):
@@ -208,9 +208,9 @@ class Leaving(Case):
         self.write(0)
         self.dirty(0)
         read(self.s, self.p, 0)
-        self.assertEqual((self.on_disk(), in_memory(self.s)), ([0], ["private"]))
+        self.assertEqual((self.on_disk(), cached(self.s)), ([0], ["private"]))
         self.dirty(1)
-        self.assertEqual((self.on_disk(), in_memory(self.s)), ([0], [page(1)]))
+        self.assertEqual((self.on_disk(), cached(self.s)), ([0], [page(1)]))
 
     def test_the_slot_of_a_class_that_is_gone_is_free(self):
         self.make(frames=1, slots=1)
@@ -218,7 +218,7 @@ class Leaving(Case):
         for gone in (lambda: drop(self.s, self.p, 0, 1), lambda: unmap(self.s, self.p, 1, 1)):
             gone()
             read_page(self.s, "f", 0)
-            self.assertEqual(in_memory(self.s), [page(0)] if kept(self.s) else [])
+            self.assertEqual(cached(self.s), [page(0)] if kept(self.s) else [])
             self.write(3)
             read(self.s, self.p, 12)
 
@@ -228,10 +228,10 @@ class Leaving(Case):
         self.write(0)
         drop(self.s, self.p, 0, 1)
         self.dirty(1)
-        self.assertEqual((self.on_disk(), in_memory(self.s)), ([], [page(0), page(1)]))
+        self.assertEqual((self.on_disk(), cached(self.s)), ([], [page(0), page(1)]))
         truncate(self.s, "f", 1)
         self.write(0)
-        self.assertEqual((self.on_disk(), in_memory(self.s)), ([], [page(0), "private"]))
+        self.assertEqual((self.on_disk(), cached(self.s)), ([], [page(0), "private"]))
 
     def test_an_object_page_that_is_gone(self):
         self.make(frames=2, slots=0)
@@ -239,7 +239,7 @@ class Leaving(Case):
         self.write(at, at + 1)
         refuses(self, self.s, "NoRoom", None, write, self.p, 0, 1)
         unmap(self.s, self.p, at, 1)
-        self.assertEqual(in_memory(self.s), [("object", 1, 1)])
+        self.assertEqual(cached(self.s), [("object", 1, 1)])
         self.dirty(0)
         self.assertEqual(self.on_disk(), [])
 
@@ -248,14 +248,14 @@ class Leaving(Case):
         at = map_pages(self.s, self.p, 1, source=("file", "f"))
         self.dirty(0, 1)
         self.write(at)
-        self.assertEqual((self.on_disk(), in_memory(self.s)), ([1], [page(0), "private"]))
+        self.assertEqual((self.on_disk(), cached(self.s)), ([1], [page(0), "private"]))
 
     def test_a_copy_with_one_frame(self):
         self.make(frames=1)
         at = map_pages(self.s, self.p, 1, source=("file", "f"))
         self.dirty(0)
         self.write(at)
-        self.assertEqual((self.on_disk(), in_memory(self.s)), ([0], ["private"]))
+        self.assertEqual((self.on_disk(), cached(self.s)), ([0], ["private"]))
         c = fork(self.s, self.p)
         write(self.s, c, 4 * at + 1, 7)
         self.assertEqual([read(self.s, process, 4 * at + 1) for process in (self.p, c)], [1, 7])
@@ -266,7 +266,7 @@ class Leaving(Case):
         self.write(0)
         refuses(self, self.s, "NoRoom", None, write, self.p, 4 * at, 1)
         refuses(self, self.s, "NoPages", "content", write_page, "f", 0, None)
-        self.assertEqual(in_memory(self.s), ["private"])
+        self.assertEqual(cached(self.s), ["private"])
 
 
 class BesideTheCache(Case):
@@ -280,14 +280,14 @@ class BesideTheCache(Case):
         at = map_pages(self.s, self.p, 1, source=("file", "f"), shared=True, index=1)
         self.dirty(0)
         self.write(at)
-        self.assertEqual((self.on_disk(), in_memory(self.s)), ([0, 1], ["private"] * 2))
+        self.assertEqual((self.on_disk(), cached(self.s)), ([0, 1], ["private"] * 2))
         self.assertEqual(disk(self.s, "f")[:2], [ONES, (1, 0, 0, 0)])
 
     def test_read_from_the_disk(self):
         self.dirty(0)
         self.assertEqual(read_page(self.s, "f", 0), ONES)
         self.assertEqual(read_page(self.s, "f", 1), ZEROS)
-        self.assertEqual(in_memory(self.s), ["private"] * 2)
+        self.assertEqual(cached(self.s), ["private"] * 2)
 
     def test_it_is_a_touch(self):
         before = len(touched(self.s))
@@ -304,7 +304,7 @@ class BesideTheCache(Case):
         self.dirty(0)
         drop(self.s, self.p, 0, 1)
         write_page(self.s, "f", 0, TWOS)
-        self.assertEqual((disk(self.s, "f")[0], in_memory(self.s)), (ONES, [page(0), "private"]))
+        self.assertEqual((disk(self.s, "f")[0], cached(self.s)), (ONES, [page(0), "private"]))
 
 
 class Crashing(Case):
@@ -314,7 +314,7 @@ class Crashing(Case):
         fork(self.s, self.p)
         self.write(0)
         self.assertIsNone(crash(self.s))
-        self.assertEqual((processes(self.s), count(self.s), in_memory(self.s)), ([], (0, 0, 0), []))
+        self.assertEqual((processes(self.s), count(self.s), cached(self.s)), ([], (0, 0, 0), []))
         for process in (1, 2):
             refuses(self, self.s, "NoProcess", process, read, process, 0)
 
@@ -337,9 +337,9 @@ class Crashing(Case):
         self.make(frames=2, slots=0)
         self.dirty(0, 1)
         crash(self.s)
-        self.assertEqual(in_memory(self.s), [])
+        self.assertEqual(cached(self.s), [])
         self.dirty(2, 3)
-        self.assertEqual((self.on_disk(), in_memory(self.s)), ([], [page(2), page(3)]))
+        self.assertEqual((self.on_disk(), cached(self.s)), ([], [page(2), page(3)]))
 
     def test_what_was_lost_is_not_written_back_later(self):
         self.make()
@@ -410,9 +410,9 @@ class Merged(Case):
         flag(self.s, self.p, 0, 8, merge=True)
         self.write(0, 1, 2)
         self.assertEqual(merge(self.s), 2)
-        self.assertEqual(in_memory(self.s), ["private"])
+        self.assertEqual(cached(self.s), ["private"])
         self.dirty(0)
-        self.assertEqual(in_memory(self.s), [page(0), "private"])
+        self.assertEqual(cached(self.s), [page(0), "private"])
 
     def test_it_is_in_a_slot_if_none_was_in_memory(self):
         self.make(frames=2)
@@ -420,9 +420,9 @@ class Merged(Case):
         self.write(0, 1)
         self.dirty(0, 1)
         self.assertEqual(merge(self.s), 1)
-        self.assertEqual(in_memory(self.s), [page(0), page(1)])
+        self.assertEqual(cached(self.s), [page(0), page(1)])
         read(self.s, self.p, 0)
-        self.assertEqual((self.on_disk(), in_memory(self.s)), ([0], [page(1), "private"]))
+        self.assertEqual((self.on_disk(), cached(self.s)), ([0], [page(1), "private"]))
 
     def test_it_has_the_least_of_the_positions(self):
         for numbers in ((0, 1), (1, 0)):
@@ -433,7 +433,7 @@ class Merged(Case):
             self.write(numbers[1])
             self.assertEqual(merge(self.s), 1)
             self.dirty(1, 2)
-            self.assertEqual((self.on_disk(), in_memory(self.s)), ([0], [page(1), page(2), "private"]))
+            self.assertEqual((self.on_disk(), cached(self.s)), ([0], [page(1), page(2), "private"]))
 
     def test_slots_are_free_again(self):
         self.make(frames=1, slots=2)
@@ -443,7 +443,7 @@ class Merged(Case):
         self.assertEqual(self.on_disk(), [0])
         merge(self.s)
         self.dirty(1)
-        self.assertEqual((self.on_disk(), in_memory(self.s)), ([0], [page(1)]))
+        self.assertEqual((self.on_disk(), cached(self.s)), ([0], [page(1)]))
 
 
 class Unlimited(unittest.TestCase):

@@ -3,10 +3,12 @@
 import unittest
 
 from pageclass.access import read, write
+from pageclass.charges import charge, reserve
 from pageclass.errors import NoCharge, NoRoom
 from pageclass.exits import frees, share
 from pageclass.files import create, read_page, write_page
 from pageclass.merging import merge
+from pageclass.positions import distances, faults, position
 from pageclass.sharing import count, next_write, same
 from pageclass.spaces import flag, map_pages, regions
 from pageclass.systems import System, fork, spawn
@@ -34,6 +36,18 @@ class Examples(unittest.TestCase):
         write(self.s, c, 5, 9)
         self.assertEqual([read(self.s, self.p, 5), read(self.s, c, 5), next_write(self.s, (self.p, 1)), count(self.s)],
                          [7, 9, "place", (2, 0, 0)])
+
+    def test_e04(self):
+        write(self.s, self.p, 5, 7)
+        fork(self.s, self.p)
+        self.assertEqual([charge(self.s), reserve(self.s)], [4, 3])
+
+    def test_e05(self):
+        write(self.s, self.p, 0, 1)
+        write(self.s, self.p, 4, 2)
+        read(self.s, self.p, 0)
+        self.assertEqual([position(self.s, (self.p, 0)), position(self.s, (self.p, 1)), distances(self.s),
+                          faults(self.s, 1), faults(self.s, 2)], [1, 2, [None, None, 2], 1, 0])
 
     def test_e06(self):
         create(self.s, "f", 1)

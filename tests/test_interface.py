@@ -59,6 +59,32 @@ FUNCTIONS = {
         "least_exits": "(system, count)",
         "exits_for": "(system, count)",
     },
+    "positions": {
+        "position": "(system, place)",
+        "at_position": "(system, number)",
+        "faults": "(system, frames)",
+        "least_frames": "(system, count)",
+        "swap_outs": "(system, frames)",
+        "write_backs": "(system, frames)",
+        "least_slots": "(system, frames)",
+        "disk_if": "(system, frames, name)",
+        "distances": "(system)",
+        "fits": "(system, log)",
+        "working": "(system, count)",
+    },
+    "choices": {
+        "best_faults": "(system, frames)",
+    },
+    "memory": {
+        "in_memory": "(system, place)",
+        "counts": "(system)",
+    },
+    "charges": {
+        "charge": "(system)",
+        "reserve": "(system)",
+        "reserve_of": "(system, process)",
+        "forks_that_fit": "(system, process)",
+    },
 }
 
 

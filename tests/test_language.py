@@ -10,7 +10,8 @@ FOLDER = os.path.dirname(pageclass.__file__)
 BUILTINS = ("len range enumerate zip min max sum abs sorted reversed int str bool bytes list tuple dict set frozenset "
             "isinstance ord repr any all divmod pow map iter next ValueError TypeError KeyError IndexError "
             "super type getattr hasattr setattr").split()
-LIBRARY = (("math", "gcd"), ("itertools", "combinations"))
+LIBRARY = (("math", "gcd"), ("itertools", "combinations"), ("heapq", "heapify"), ("heapq", "heappop"),
+           ("heapq", "heappush"), ("heapq", "heappushpop"))
 BARRED = (ast.AsyncFunctionDef, ast.AsyncFor, ast.AsyncWith, ast.Await, ast.Global, ast.Import)
 
 

@@ -3,20 +3,19 @@
 import unittest
 
 from pageclass import errors
-from pageclass.access import drop, need, read, write
+from pageclass.charges import charge, forks_that_fit, reserve, reserve_of
 from pageclass.exits import exits_for, frees, least_exits, share
-from pageclass.files import create, crash, disk, drop_cache, files, read_page, size, sync, truncate, write_page
-from pageclass.merging import merge
+from pageclass.files import disk, files, size
+from pageclass.memory import counts, in_memory
+from pageclass.positions import at_position, distances, position, working
 from pageclass.sharing import count, next_write, same, users, writes_of
-from pageclass.spaces import flag, gap, map_pages, move, protect, regions, unmap, widest
-from pageclass.systems import System, fork, fresh, leave, now, processes, spawn
+from pageclass.spaces import gap, regions, widest
+from pageclass.systems import System, now, processes
 from draws import Draw
 from model import Model, Refused
-from support import VALUES, cells, give_lock, in_memory, snapshot, touched
+from steps import STEPS
+from support import VALUES, cells, cached, snapshot, touched
 
-STEPS = {step.__name__: step for step in (spawn, fork, leave, fresh, map_pages, unmap, protect, flag, move, read,
-                                          write, need, drop, create, read_page, write_page, truncate, sync,
-                                          drop_cache, crash, merge)}
 ALWAYS = ("gives", "NoProcess", "NoPages", "NotMapped", "NoRight", "PastEnd", "NoFile", "Taken")
 
 
@@ -52,24 +51,15 @@ class Run:
 
     def step(self):
         name, args, named = self.draw.step(self.model)
-        touches = len(self.system.touches)
+        touches = len(self.system.history.touches)
         before = snapshot(self.system)
         want = expected(self.model, name, args, named)
         self.case.assertEqual(outcome(STEPS[name], self.system, *args, **named), want, (name, args, named))
         if want[0] == "gives":
-            self.case.assertEqual(touched(self.system)[touches:], told(self.model.touched))
+            self.case.assertEqual(touched(self.system)[touches:], told([item for item, *_ in self.model.touched]))
         else:
             self.case.assertEqual(snapshot(self.system), before)
         self.seen[want[0]] = self.seen.get(want[0], 0) + 1
-
-    def lock_one(self):
-        """Lock a page, as a later step could have done."""
-        able = [place for place in self.model.places() if self.page(place)["key"] is not None
-                and self.page(place)["rights"] == "rw" and "lock" not in self.page(place)["flags"]]
-        if able:
-            place = self.draw.one(*able)
-            give_lock(self.system, *place)
-            self.page(place)["flags"] |= {"lock"}
 
     def page(self, place):
         return self.model.tables[place[0]][place[1]]
@@ -85,7 +75,19 @@ class Run:
         for name in model.files:
             equal((size(system, name), disk(system, name)), (len(model.files[name]), model.disk[name]))
         equal(count(system), model.count())
-        equal(in_memory(system), sorted(told(model.memory), key=str))
+        equal(counts(system), model.counts)
+        equal(cached(system), sorted(told(model.memory), key=str))
+
+    def compare_positions(self):
+        system, model, equal = self.system, self.model, self.case.assertEqual
+        for place in model.places():
+            item = model.shown_at(place)
+            equal((position(system, place), in_memory(system, place)), (model.position(item), item in model.memory))
+        for number in range(1, len(model.row) + 3):
+            equal(at_position(system, number), model.at_position(number))
+        equal(distances(system), model.distances())
+        for number in (0, 1, 2, 5, 20, 10 ** 30):
+            equal(working(system, number), model.working(number))
 
     def compare_places(self):
         places = self.model.places()
@@ -97,9 +99,17 @@ class Run:
         self.case.assertEqual(next_write(self.system, one), self.model.next_write(one))
         able = [place for place in places if self.model.next_write(place) is not None]
         some = self.draw.random.sample(able, self.draw.random.randint(0, len(able)))
-        counts = self.model.writes_of(some)
-        self.case.assertEqual(writes_of(self.system, some), counts)
-        self.case.assertEqual(self.model.writes_of(self.draw.random.sample(some, len(some))), counts)
+        made = self.model.writes_of(some)
+        self.case.assertEqual(writes_of(self.system, some), made)
+        self.case.assertEqual(self.model.writes_of(self.draw.random.sample(some, len(some))), made)
+
+    def compare_charges(self):
+        system, model, equal = self.system, self.model, self.case.assertEqual
+        equal(charge(system), model.charge())
+        equal(reserve(system), model.reserve(self.draw.random))
+        for process in model.tables:
+            equal(reserve_of(system, process), model.reserve_of(process))
+            equal(forks_that_fit(system, process), model.forks_that_fit(process))
 
     def compare_exits(self):
         living = processes(self.system)
@@ -127,12 +137,15 @@ class RandomSteps(unittest.TestCase):
         for number in range(1, 151):
             with self.subTest(seed=seed, number=number):
                 run.step()
-                if "frames" not in named and run.draw.often(0.1):
-                    run.lock_one()
                 run.compare()
                 run.compare_places()
+                before = snapshot(run.system)
+                if number % 10 == 0:
+                    run.compare_positions()
+                    run.compare_charges()
                 if number % 50 == 0:
                     run.compare_exits()
+                self.assertEqual(snapshot(run.system), before)
         run.compare_gaps()
         return run.seen
 
@@ -148,7 +161,7 @@ class RandomSteps(unittest.TestCase):
         self.assertEqual(sorted(seen), sorted(ALWAYS + names))
 
     def test_without_limits(self):
-        self.met(self.run_all(range(25)), "NoLock")
+        self.met(self.run_all(range(25)))
 
     def test_with_frames_alone(self):
         for frames in (1, 2, 3, 5):
