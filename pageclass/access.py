@@ -2,9 +2,9 @@
 
 from pageclass.checks import is_integer, numbers_of, require, require_mapped, require_right
 from pageclass.checks import require_shown, require_unlocked, table_of
-from pageclass.frames import put_content, touch
+from pageclass.frames import put_content, this_step, touch
 from pageclass.limits import require_room
-from pageclass.pages import CELLS, LAST_ADDRESS, LAST_CELL, with_cell, with_held
+from pageclass.pages import CELLS, LAST_ADDRESS, LAST_CELL, with_cell, with_held, with_stamp
 from pageclass.stores import end_step, item_to_write, makes_class, replace_pages, shown
 
 
@@ -35,10 +35,12 @@ def write(system, process, address, value):
     require_right(number, page, ("rw",))
     require_shown(system, number, page)
     if makes_class(system, page):
-        require_room(system)
+        require_room(system, 1)
     item = item_to_write(system, process, number)
     touch(system, item)
     put_content(system, item, with_cell(item.content, cell, value))
+    if not page.shared:
+        replace_pages(system, process, {number: with_stamp(table[number], this_step(system))})
     end_step(system)
 
 
@@ -60,5 +62,9 @@ def drop(system, process, first, count):
     numbers = numbers_of(first, count)
     require_mapped(table, numbers)
     require_unlocked(table, numbers)
-    replace_pages(system, process, {number: with_held(table[number], None) for number in numbers})
+    changes = {}
+    for number in numbers:
+        if not table[number].shared:
+            changes[number] = with_stamp(with_held(table[number], None), this_step(system))
+    replace_pages(system, process, changes)
     end_step(system)

@@ -9,7 +9,7 @@ from pageclass.systems import pages_of_child
 
 def charge(system):
     """The charge of a system (9.1)."""
-    return charge_of(system, system.tables)
+    return charge_of(system, {}, {})
 
 
 def reserve(system):
@@ -75,5 +75,5 @@ def forks_that_fit(system, process):
         return None
     before = charge(system)
     # Each fork raises the charge by the same number.
-    raised = charge_of(system, {**system.tables, system.processes_made + 1: pages_of_child(table)}) - before
+    raised = charge_of(system, {system.processes_made + 1: pages_of_child(system, table)}, {}) - before
     return None if raised == 0 else max(0, (room - before) // raised)

@@ -81,4 +81,4 @@ def least_exits(system, count):
 def exits_for(system, count):
     """The least of the shortest tuples whose exits lessen the charge by so much, or None (6.2)."""
     require(is_natural(count), "count")
-    return least_choice(system, list(charge_units(system, system.tables).values()), count)
+    return least_choice(system, list(charge_units(system, {}, {}).values()), count)

@@ -2,10 +2,10 @@
 
 from pageclass.checks import file_of, is_integer, require
 from pageclass.errors import NoFile, Taken
-from pageclass.frames import forget_cached, put_content, save, touch
+from pageclass.frames import forget_cached, put_content, save, this_step, touch
 from pageclass.limits import require_charge_of_file
-from pageclass.pages import CELLS, FILE_PAGES, LAST_CELL, ZEROS, Item
-from pageclass.stores import end_step
+from pageclass.pages import CELLS, FILE_PAGES, LAST_CELL, ZEROS, Item, with_stamp
+from pageclass.stores import end_step, replace_pages
 from pageclass.systems import end_process, processes
 
 
@@ -85,8 +85,19 @@ def truncate(system, name, count):
     require_charge_of_file(system, name, count)
     for item in pages[count:]:
         forget_cached(system, item)
+    stamp_pages_between(system, name, min(count, len(pages)), max(count, len(pages)))
     system.files[name] = pages[:count] + new_pages_of_file(name, len(pages), count)
     end_step(system)
+
+
+def stamp_pages_between(system, name, first, end):
+    """Stamp what shows pages of a file from an index up to an end, or would show them (10.1)."""
+    for process in processes(system):
+        changes = {}
+        for number, page in system.tables[process].items():
+            if page.source == ("file", name) and page.held is None and first <= page.index < end:
+                changes[number] = with_stamp(page, this_step(system))
+        replace_pages(system, process, changes)
 
 
 def sync(system, name):
@@ -115,6 +126,7 @@ def crash(system):
         end_process(system, process)
     for item in all_file_pages(system):
         item.content = item.on_disk
+        item.origin = None
         forget_cached(system, item)
     system.history.crashed = True
     end_step(system)

@@ -9,6 +9,11 @@ from pageclass.pages import is_file_page
 from pageclass.rows import free_position, is_locked, record_touch, save_everywhere
 
 
+def this_step(system):
+    """The number that a step will have if it succeeds (0.4)."""
+    return system.steps_made + 1
+
+
 def touch(system, item):
     """Touch an item (7.1): it comes into memory, if it can."""
     if item not in system.memory:
@@ -63,8 +68,9 @@ def save(system, item):
 
 
 def put_content(system, item, content):
-    """Change an item that was touched."""
+    """Write an item that was touched."""
     item.content = content
+    item.origin = this_step(system)
     if is_file_page(item):
         item.dirty = True
         item.dirty_from = item.position

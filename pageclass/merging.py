@@ -26,11 +26,20 @@ def heirs_of(classes):
     return heirs
 
 
+def greatest_origin(item, other):
+    """The greater one of the origins of two classes; None is the least (10.1)."""
+    if item.origin is None or other.origin is None:
+        return item.origin if other.origin is None else other.origin
+    return max(item.origin, other.origin)
+
+
 def merge(system):
     """Leave one of the classes to merge with equal contents; return how many are gone (4.1)."""
     # The class that is left is the one with the least position. So it is locked if one of them is,
     # and in memory if one of them is: what leaves is the class in memory with the greatest position.
     heirs = heirs_of(classes_to_merge(system))
+    for item, heir in heirs.items():
+        heir.origin = greatest_origin(item, heir)
     for process in processes(system):
         table = system.tables[process]
         changes = {}

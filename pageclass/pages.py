@@ -14,7 +14,8 @@ FLAGS = ("lock", "merge", "stay", "wipe")
 class Item:
     """A stored content: a private class (without a source), an object page or a file page.
 
-    position is its position (7.2), None if it has none. holders is the number of private pages that
+    origin is the number of the step of the last write to it, None if there was none (10.1); position
+    is its position, None if it has none (7.2). holders is the number of private pages that
     hold the class, and locks the number of the locked ones; only private classes have some.
 
     The rest is about file pages. dirty tells whether the cache has what the disk has not, on_disk
@@ -27,6 +28,7 @@ class Item:
         self.source = source
         self.index = index
         self.content = content
+        self.origin = None
         self.position = None
         self.holders = 0
         self.locks = 0
@@ -40,31 +42,51 @@ class Item:
 class Page:
     """A mapped page: its attributes, and the private class that it holds (None if it holds none).
 
-    A page is never changed, only replaced: so what a step would do can be judged before it is done.
+    stamp is the number of the last step that changed what it shows, but for writes to an object page
+    or a file page that it shows: their origin tells them (10.1). A page is never changed, only
+    replaced: so what a step would do can be judged before it is done.
     """
 
-    def __init__(self, rights, shared, source, index, flags, held):
+    def __init__(self, rights, shared, source, index, flags, held, stamp):
         self.rights = rights
         self.shared = shared
         self.source = source
         self.index = index
         self.flags = flags
         self.held = held
+        self.stamp = stamp
 
 
 def with_rights(page, rights):
     """The page with other rights."""
-    return Page(rights, page.shared, page.source, page.index, page.flags, page.held)
+    return Page(rights, page.shared, page.source, page.index, page.flags, page.held, page.stamp)
 
 
 def with_flags(page, flags):
     """The page with other flags."""
-    return Page(page.rights, page.shared, page.source, page.index, flags, page.held)
+    return Page(page.rights, page.shared, page.source, page.index, flags, page.held, page.stamp)
+
+
+def with_lock(page, locked):
+    """The page with the flag "lock", or without it."""
+    words = {name: name in page.flags for name in FLAGS}
+    words["lock"] = locked
+    return with_flags(page, tuple([name for name in FLAGS if words[name]]))
 
 
 def with_held(page, held):
     """The page with another private class, or untouched (None)."""
-    return Page(page.rights, page.shared, page.source, page.index, page.flags, held)
+    return Page(page.rights, page.shared, page.source, page.index, page.flags, held, page.stamp)
+
+
+def with_source(page, source):
+    """The page with another source of the same kind."""
+    return Page(page.rights, page.shared, source, page.index, page.flags, page.held, page.stamp)
+
+
+def with_stamp(page, stamp):
+    """The page with another stamp."""
+    return Page(page.rights, page.shared, page.source, page.index, page.flags, page.held, stamp)
 
 
 def attributes(page):

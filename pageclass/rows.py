@@ -71,8 +71,10 @@ def take_hole(history):
     """The first free position, for an item that had none."""
     if len(history.holes) > 0:
         return heappop(history.holes)
-    for by_position in (history.swap_outs, history.write_backs, history.most_slots, history.saves):
-        by_position.append(0)
+    history.swap_outs.append(0)
+    history.write_backs.append(0)
+    history.most_slots.append(0)
+    history.saves.append(0)
     history.row.append(None)
     return len(history.row)
 

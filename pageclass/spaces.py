@@ -3,7 +3,8 @@
 from pageclass.checks import file_of, is_integer, is_word, numbers_of, require, require_mapped
 from pageclass.checks import require_unlocked, table_of
 from pageclass.limits import require_charge
-from pageclass.pages import FLAGS, PAGES, RIGHTS, Page, attributes, with_flags, with_rights
+from pageclass.frames import this_step
+from pageclass.pages import FLAGS, PAGES, RIGHTS, Page, attributes, with_flags, with_rights, with_stamp
 from pageclass.stores import end_step, replace_pages
 
 
@@ -38,8 +39,8 @@ def map_pages(system, process, count, *, rights="rw", shared=False, source=None,
     first = place_for(table, count, at)
     makes_object = shared and source is None
     shows = ("object", system.objects_made + 1) if makes_object else source
-    pages = new_pages(first, count, Page(rights, shared, shows, index, (), None))
-    require_charge(system, process, {**table, **pages})
+    pages = new_pages(first, count, Page(rights, shared, shows, index, (), None, this_step(system)))
+    require_charge(system, {process: {**table, **pages}}, {})
     if makes_object:
         system.objects_made += 1
     replace_pages(system, process, pages)
@@ -52,7 +53,7 @@ def new_pages(first, count, page):
     pages = {}
     for k in range(count):
         index = None if page.source is None else page.index + k
-        pages[first + k] = Page(page.rights, page.shared, page.source, index, page.flags, page.held)
+        pages[first + k] = Page(page.rights, page.shared, page.source, index, page.flags, page.held, page.stamp)
     return pages
 
 
@@ -73,7 +74,7 @@ def protect(system, process, first, count, rights):
     if rights != "rw":
         require_unlocked(table, numbers)
     pages = {number: with_rights(table[number], rights) for number in numbers}
-    require_charge(system, process, {**table, **pages})
+    require_charge(system, {process: {**table, **pages}}, {})
     replace_pages(system, process, pages)
     end_step(system)
 
@@ -110,7 +111,7 @@ def move(system, process, first, count, to):
     require_mapped(table, numbers)
     changes = {number: None for number in numbers}
     for number in numbers:
-        changes[to + number - first] = table[number]
+        changes[to + number - first] = with_stamp(table[number], this_step(system))
     replace_pages(system, process, changes)
     end_step(system)
 

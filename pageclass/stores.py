@@ -30,6 +30,15 @@ def shown(system, page):
     return system.files[page.source[1]][page.index]
 
 
+def stamp_of(system, page):
+    """The stamp of a page (10.1)."""
+    item = shown(system, page)
+    # What writes a private class stamps the page itself.
+    if page.held is not None or item is None or item.origin is None:
+        return page.stamp
+    return max(page.stamp, item.origin)
+
+
 def makes_class(system, page):
     """Whether a write to a page makes a private class or an object page (2.4)."""
     if page.shared:
@@ -52,6 +61,7 @@ def new_class(system, process, number):
     if old is not None:
         touch(system, old)
     item = Item(None, None, ZEROS if old is None else old.content)
+    item.origin = None if old is None else old.origin
     system.classes[item] = True
     replace_pages(system, process, {number: with_held(page, item)})
     return item

@@ -3,7 +3,8 @@
 from pageclass.checks import is_integer, table_of
 from pageclass.errors import NoSystem
 from pageclass.limits import require_charge
-from pageclass.pages import with_flags, with_held
+from pageclass.frames import this_step
+from pageclass.pages import with_held, with_lock, with_stamp
 from pageclass.rows import History
 from pageclass.stores import end_step, replace_pages
 
@@ -68,21 +69,24 @@ def spawn(system):
     return process
 
 
-def child_page(page):
-    """The page of a child for a page of its process (1.5)."""
-    held = None if "wipe" in page.flags else page.held
-    return with_held(with_flags(page, tuple([flag for flag in page.flags if flag != "lock"])), held)
+def child_page(page, step):
+    """The page of a child, which this step makes, for a page of its process (1.5)."""
+    child = with_lock(page, False)
+    if "wipe" in page.flags and not page.shared:
+        return with_stamp(with_held(child, None), step)
+    return child
 
 
-def pages_of_child(table):
+def pages_of_child(system, table):
     """The pages of a child for those of its process."""
-    return {number: child_page(page) for number, page in table.items() if "stay" not in page.flags}
+    step = this_step(system)
+    return {number: child_page(page, step) for number, page in table.items() if "stay" not in page.flags}
 
 
 def fork(system, process):
     """Make a child of a process and return its number (1.5)."""
-    pages = pages_of_child(table_of(system, process))
-    require_charge(system, system.processes_made + 1, pages)
+    pages = pages_of_child(system, table_of(system, process))
+    require_charge(system, {system.processes_made + 1: pages}, {})
     child = new_process(system)
     replace_pages(system, child, pages)
     end_step(system)

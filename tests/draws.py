@@ -6,7 +6,7 @@ NAMES = ("f", "f", "f", "g", "g", "h")
 # Contents of few kinds, so that some are equal.
 CONTENTS = ((0, 0, 0, 0), (1, 2, 3, 4), (0, 1, 0, 0), (255, 0, 0, 9))
 USUAL = (["map_pages"] * 6 + ["write"] * 12 + ["read"] * 4 + ["fork"] * 2 + ["protect"] * 2 + ["flag"] * 2
-         + ["unmap", "move", "need", "drop"])
+         + ["lock"] * 2 + ["unmap", "move", "need", "drop", "unlock"])
 FILES = ["read_page", "write_page", "write_page", "truncate", "create", "sync", "merge"]
 
 
@@ -101,6 +101,65 @@ class Draw:
                 if self.often(0.4):
                     named[word] = self.one(True, word == "merge", None)
         return args, named
+
+
+class Busy(Draw):
+    """Few pages, many touches, locks and merges; seldom an error."""
+
+    STEPS = (["write"] * 24 + ["read"] * 10 + ["lock"] * 6 + ["unlock"] * 3 + ["merge"] * 3 + ["fork"] * 2
+             + ["map_pages"] * 3 + ["need"] * 2 + ["drop"] * 2 + ["flag"] * 4 + ["unmap", "move", "protect"])
+    FILES = ["read_page"] * 6 + ["write_page"] * 6 + ["sync", "drop_cache", "truncate"]
+
+    def page(self, table):
+        return self.random.choice(sorted(table)) if table and self.often(0.97) else self.random.randrange(8)
+
+    def step(self, model):
+        living = sorted(model.tables)
+        if self.often(0.01):
+            return Draw.step(self, model)
+        if not living or self.often(0.01):
+            return "spawn", (), {}
+        if len(living) > 4 and self.often(0.2):
+            return self.one("leave", "leave", "fresh"), (self.one(*living),), {}
+        if self.often(0.15):
+            return self.busy_file_step()
+        process = self.one(*living)
+        table = model.tables[process]
+        if len(table) < 4 or self.often(0.01):
+            return self.busy_map(process)
+        return self.busy_step(self.one(*self.STEPS), process, table)
+
+    def busy_map(self, process):
+        source = self.one(None, None, None, ("file", "f"))
+        named = {"shared": self.often(0.2), "source": source, "at": self.random.randrange(7)}
+        return "map_pages", (process, self.one(1, 2, 3)), named
+
+    def busy_file_step(self):
+        name = self.one(*self.FILES)
+        args = {"read_page": (self.one(0, 1),), "write_page": (self.one(0, 1), self.one(*CONTENTS)),
+                "truncate": (self.one(2, 2, 2, 1, 3),), "sync": ()}
+        if name == "drop_cache":
+            return name, (), {}
+        if self.often(0.05):
+            return "create", ("f", 2), {}
+        return name, ("f",) + args[name], {}
+
+    def busy_step(self, name, process, table):
+        page = self.page(table)
+        many = self.one(1, 1, 1, 2)
+        if name == "write":
+            return name, (process, 4 * page, self.one(1, 1, 2)), {}
+        if name == "read":
+            return name, (process, 4 * page), {}
+        if name in ("fork", "merge"):
+            return name, (process,)[:name == "fork"], {}
+        if name == "map_pages":
+            return self.busy_map(process)
+        if name == "flag":
+            wanted = {"merge": True} if self.often(0.9) else {self.one("stay", "wipe"): self.often(0.5)}
+            return name, (process, page, self.one(*[k for k in range(1, 5) if page + k - 1 in table] or [1])), wanted
+        more = {"move": (self.random.randrange(8),), "protect": (self.one("rw", "rw", "r"),)}
+        return name, (process, page, many) + more.get(name, ()), {}
 
 
 class View:

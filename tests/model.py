@@ -24,7 +24,7 @@ def whole(value, low, high):
 
 
 class Model:
-    """A page is a dict with its attributes, "cells" (None if untouched) and "key" (equal for the same class).
+    """A page is a dict with its attributes, "cells" (None if untouched), "key" (equal for the same class) and "stamp".
 
     An item is ("private", key), ("object", number, index) or ("file", name, index).
     """
@@ -39,14 +39,17 @@ class Model:
         self.files = {}
         self.disk = {}
         self.row = []
+        self.locked = []
         self.memory = set()
         self.dirty = set()
         self.lives = {}
+        self.origins = {}
         self.touched = []
         self.log = []
         self.counts = {"faults": 0, "swap_outs": 0, "write_backs": 0}
-        self.most_slots = 0
+        self.most_slots = self.most_locked = 0
         self.crashed = self.merged = False
+        self.parents = {}
         self.now = self.processes = self.objects = self.keys = 0
 
     def copy(self):
@@ -58,9 +61,12 @@ class Model:
         other.files = {name: list(pages) for name, pages in self.files.items()}
         other.disk = {name: list(pages) for name, pages in self.disk.items()}
         other.row = list(self.row)
+        other.locked = list(self.locked)
+        other.origins = dict(self.origins)
         other.memory = set(self.memory)
         other.dirty = set(self.dirty)
         other.lives = dict(self.lives)
+        other.parents = dict(self.parents)
         other.counts = dict(self.counts)
         other.touched = []
         return other
@@ -70,13 +76,15 @@ class Model:
         trial = self.copy()
         result = getattr(trial, name)(*args, **named)
         trial.clear_away()
-        if name in ("map_pages", "protect", "fork", "truncate") and self.strict:
+        if name in ("map_pages", "protect", "fork", "truncate", "restore") and self.strict:
             if trial.charge() > max(self.limit, self.charge()):
                 raise Refused("NoCharge")
-        if name == "write":
+        if name in ("write", "lock", "restore"):
             if self.limit is not None and trial.kept() > self.limit:
                 raise Refused("NoRoom")
+        if name == "write":
             result = None
+        trial.most_locked = max(self.most_locked, trial.locked_pages())
         trial.now += 1
         trial.log = self.log + trial.touched
         vars(self).update(vars(trial))
@@ -90,6 +98,13 @@ class Model:
         self.row = [item if item in items else None for item in self.row]
         self.memory &= items
         self.dirty &= items
+        self.origins = {item: step for item, step in self.origins.items() if item in items}
+        holders = {("private", page["key"]): "lock" in page["flags"] for page in self.pages() if page["key"] is not None}
+        holders.update({("private", page["key"]): True for page in self.pages() if "lock" in page["flags"]})
+        stay = [item for item in self.locked if holders.get(item)]
+        loose = [item for item in self.locked if holders.get(item) is False]
+        self.row[:len(self.locked)] = (stay + loose + [None] * len(self.locked))[:len(self.locked)]
+        self.locked = stay
         self.lives = {item: self.lives[item] if item in self.lives else self.now for item in items}
 
     def items(self):
@@ -156,10 +171,12 @@ class Model:
         if item not in self.memory:
             self.counts["faults"] += position is not None
             self.come(item)
-        if position is not None:
-            self.row[position - 1] = None
-        hole = self.row.index(None) if None in self.row else len(self.row)
-        self.row[:hole + 1] = [item] + self.row[:hole]
+        if item not in self.locked:
+            if position is not None:
+                self.row[position - 1] = None
+            first = len(self.locked)
+            hole = self.row.index(None, first) if None in self.row[first:] else len(self.row)
+            self.row[first:hole + 1] = [item] + self.row[first:hole]
         self.most_slots = max(self.most_slots, len([other for other in self.row if self.has_slot(other)]))
         if self.slots is None and self.frames is not None:
             assert self.memory == set(self.row[:self.frames]) - {None}
@@ -171,7 +188,7 @@ class Model:
         if self.frames is not None and len(self.memory) >= self.frames:
             outside = [other for other in self.row if self.has_slot(other) and other != item]
             for other in reversed(self.row):
-                if other in self.memory:
+                if other in self.memory and other not in self.locked:
                     if other[0] == "file" or self.slots is None or len(outside) < self.slots:
                         self.leave_memory(other)
                         break
@@ -195,6 +212,15 @@ class Model:
         self.dirty.add(item)
         if item not in self.memory:
             self.write_back(item)
+        self.mark_written(item)
+
+    def mark(self, *pages):
+        for page in pages:
+            page["stamp"] = self.now + 1
+
+    def mark_written(self, item):
+        self.origins[item] = self.now + 1
+        self.mark(*[page for page in self.pages() if self.item(page) == item])
 
     # Arguments
 
@@ -237,11 +263,14 @@ class Model:
     def fork(self, process):
         table = self.table(process)
         child = self.spawn()
+        self.parents[child] = (process, self.now + 1)
         for number, page in table.items():
             if "stay" not in page["flags"]:
                 self.tables[child][number] = dict(page, flags=page["flags"] - {"lock"})
                 if "wipe" in page["flags"]:
                     self.tables[child][number].update(cells=None, key=None)
+                    if not page["shared"]:
+                        self.mark(self.tables[child][number])
         return child
 
     def leave(self, process):
@@ -269,7 +298,8 @@ class Model:
             source = ("object", self.objects)
         for k in range(count):
             table[at + k] = {"rights": rights, "shared": shared, "source": source, "flags": frozenset(),
-                             "index": None if source is None else index + k, "cells": None, "key": None}
+                             "index": None if source is None else index + k, "cells": None, "key": None,
+                             "stamp": self.now + 1}
         return at
 
     def gap(self, table, count):
@@ -312,6 +342,7 @@ class Model:
         self.mapped(table, numbers)
         for number in numbers:
             table[to + number - first] = table.pop(number)
+            self.mark(table[to + number - first])
 
     # Contents
 
@@ -348,6 +379,7 @@ class Model:
             effect = "place" if key in self.written else "zeros"
             self.written[key] = new
             self.touch(self.item(page))
+            self.mark_written(self.item(page))
             return effect
         self.touch(self.item(page))
         self.change_file_page(self.item(page), new)
@@ -364,7 +396,54 @@ class Model:
             page["key"] = self.keys
         page["cells"] = new
         self.touch(self.item(page))
+        if "lock" in page["flags"]:
+            self.become_locked(page)
+        self.origins[self.item(page)] = self.now + 1
+        self.mark(page)
         return effect
+
+    def become_locked(self, page):
+        if self.item(page) not in self.locked:
+            assert self.row[len(self.locked)] == self.item(page)
+            self.locked.append(self.item(page))
+
+    def locked_pages(self):
+        return len([page for page in self.pages() if "lock" in page["flags"]])
+
+    def lock(self, process, first, count):
+        table = self.table(process)
+        numbers = self.range(first, count)
+        self.mapped(table, numbers)
+        for number in numbers:
+            if table[number]["shared"] or table[number]["rights"] != "rw":
+                raise Refused("NoLock", number)
+        for number in numbers:
+            if self.content(table[number]) is None:
+                raise Refused("PastEnd", number)
+        many = self.locked_pages() + len([number for number in numbers if "lock" not in table[number]["flags"]])
+        if self.frames is not None and many > self.frames - 1:
+            raise Refused("NoLock", None)
+        for number in numbers:
+            self.lock_page(table[number])
+
+    def lock_page(self, page):
+        if page["key"] is None:
+            old, content = self.item(page), self.content(page)
+            if old is not None:
+                self.touch(old)
+            self.keys += 1
+            page.update(key=self.keys, cells=content)
+            self.origins[self.item(page)] = self.origins.get(old)
+        self.touch(self.item(page))
+        page["flags"] |= {"lock"}
+        self.become_locked(page)
+
+    def unlock(self, process, first, count):
+        table = self.table(process)
+        numbers = self.range(first, count)
+        self.mapped(table, numbers)
+        for number in numbers:
+            table[number]["flags"] -= {"lock"}
 
     def need(self, process, first, count):
         table = self.table(process)
@@ -382,6 +461,8 @@ class Model:
         self.unlocked(table, numbers)
         for number in numbers:
             table[number].update(cells=None, key=None)
+            if not table[number]["shared"]:
+                self.mark(table[number])
 
     # Files and merging
 
@@ -411,8 +492,10 @@ class Model:
     def truncate(self, name, count):
         self.file(name)
         self.check(whole(count, 0, 64), "count")
+        shown = [self.content(page) is None for page in self.pages()]
         for kept in (self.files, self.disk):
             kept[name] = (kept[name] + [ZEROS] * 64)[:count] if count > len(kept[name]) else kept[name][:count]
+        self.mark(*[page for page, nothing in zip(self.pages(), shown) if nothing != (self.content(page) is None)])
 
     def sync(self, name):
         for index in range(len(self.file(name))):
@@ -428,6 +511,7 @@ class Model:
         self.files = {name: list(pages) for name, pages in self.disk.items()}
         self.dirty = set()
         self.crashed = True
+        self.origins = {}
         self.forget_file_pages()
 
     def forget_file_pages(self):
@@ -459,6 +543,53 @@ class Model:
         self.row[places[0]] = ("private", left)
         if self.memory & items:
             self.memory = self.memory - items | {("private", left)}
+        greatest = max([self.origins[item] or 0 for item in items]) or None
+        self.origins[("private", left)] = greatest
+
+    # Families
+
+    def family(self, some):
+        """Copies of the tables, and of the object pages that they show."""
+        tables = [{number: dict(page) for number, page in self.tables[process].items()} for process in some]
+        sources = {(page["source"], page["index"]) for table in tables for page in table.values()}
+        return tables, {key: cells for key, cells in self.written.items() if key in sources}
+
+    def restore(self, family):
+        tables, written = family
+        for name in sorted({page["source"][1] for table in tables for page in table.values()
+                            if page["source"] is not None and page["source"][0] == "file"}):
+            self.file(name)
+        objects, keys, numbers = {}, {}, []
+        for table in tables:
+            self.processes += 1
+            numbers.append(self.processes)
+            self.tables[self.processes] = {}
+            for number in sorted(table):
+                page = dict(table[number], stamp=self.now + 1, flags=table[number]["flags"] - {"lock"})
+                self.tables[self.processes][number] = page
+                self.restore_page(page, objects, keys, written)
+        for process in numbers:
+            for number in sorted(self.tables[process]):
+                item = self.item(self.tables[process][number])
+                if item is not None and item[0] != "file" and item not in self.row:
+                    self.touch(item)
+                    self.origins[item] = self.now + 1
+        return numbers
+
+    def restore_page(self, page, objects, keys, written):
+        if page["key"] is not None:
+            if page["key"] not in keys:
+                self.keys += 1
+                keys[page["key"]] = self.keys
+            page["key"] = keys[page["key"]]
+        old = page["source"]
+        if old is not None and old[0] == "object":
+            if old not in objects:
+                self.objects += 1
+                objects[old] = ("object", self.objects)
+            page["source"] = objects[old]
+            if (old, page["index"]) in written:
+                self.written[(page["source"], page["index"])] = written[(old, page["index"])]
 
     # Questions
 
@@ -511,6 +642,20 @@ class Model:
         if item is None or item[0] != "private":
             return item
         return "private", [place for place in self.places() if self.shown_at(place) == item]
+
+    def stamp(self, place):
+        return self.tables[place[0]][place[1]]["stamp"]
+
+    def origin(self, place):
+        return self.origins.get(self.shown_at(place))
+
+    def changed(self, process, since):
+        return [number for number in sorted(self.tables[process]) if self.stamp((process, number)) > since]
+
+    def increment(self, process, since):
+        table = self.tables[process]
+        return (tuple(self.regions(process)),
+                tuple((number, self.content(table[number])) for number in self.changed(process, since)))
 
     def distances(self):
         return [position for item, position, life in self.log]

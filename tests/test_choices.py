@@ -3,6 +3,7 @@
 import random
 import unittest
 
+from pageclass import errors
 from pageclass.access import drop, need, read, write
 from pageclass.choices import best_faults
 from pageclass.files import create, crash, drop_cache, read_page, truncate, write_page
@@ -10,7 +11,9 @@ from pageclass.merging import merge
 from pageclass.positions import distances, faults
 from pageclass.spaces import flag, map_pages, unmap
 from pageclass.systems import System, fork, spawn
+from draws import Busy, View
 from search import least_faults, touches_of
+from steps import STEPS
 from support import ODD, refuses
 
 HUGE = 10 ** 3000
@@ -167,6 +170,27 @@ class Search(Case):
                     truncate(self.s, "f", 6)
             with self.subTest(seed=seed):
                 self.check()
+
+    def test_random_steps_with_locks(self):
+        """The locks are those of the history; that these are right is seen in what real systems do."""
+        locks = 0
+        for seed in range(30):
+            draw = Busy(7000 + seed)
+            self.s = System()
+            for _ in range(90):
+                name, args, named = draw.step(View(self.s))
+                if name not in ("crash", "merge"):
+                    try:
+                        STEPS[name](self.s, *args, **named)
+                    except errors.PageError:
+                        pass
+            touches = touches_of(self.s.history)
+            least = self.s.history.most_locked + 1
+            locks += least > 1
+            with self.subTest(seed=seed):
+                for frames in range(least, least + 4):
+                    self.assertEqual(best_faults(self.s, frames), least_faults(touches, frames))
+        self.assertGreater(locks, 15)
 
 
 if __name__ == "__main__":

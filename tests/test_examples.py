@@ -1,4 +1,4 @@
-"""The examples of DOC.md whose modules exist."""
+"""The examples of DOC.md."""
 
 import unittest
 
@@ -7,11 +7,14 @@ from pageclass.charges import charge, reserve
 from pageclass.errors import NoCharge, NoRoom
 from pageclass.exits import frees, share
 from pageclass.files import create, read_page, write_page
+from pageclass.locks import lock
 from pageclass.merging import merge
+from pageclass.pictures import changed, compose, increment, picture
 from pageclass.positions import distances, faults, position
 from pageclass.sharing import count, next_write, same
 from pageclass.spaces import flag, map_pages, regions
-from pageclass.systems import System, fork, spawn
+from pageclass.steps import run
+from pageclass.systems import System, fork, now, spawn
 
 
 class Examples(unittest.TestCase):
@@ -83,6 +86,27 @@ class Examples(unittest.TestCase):
         write(t, q, 0, 1)
         with self.assertRaises(NoRoom):
             write(t, q, 4, 1)
+
+    def test_e11(self):
+        write(self.s, self.p, 0, 1)
+        n = now(self.s)
+        k = picture(self.s, self.p)
+        write(self.s, self.p, 4, 2)
+        self.assertEqual([changed(self.s, self.p, n), compose(k, increment(self.s, self.p, n)) == picture(self.s, self.p)],
+                         [[1], True])
+
+    def test_e12(self):
+        p = self.p
+        self.assertEqual(run(self.s, [("write", p, 0, 3), ("read", p, 0), ("read", p, 9), ("spawn",),
+                                      ("map_pages", p, 1, {"rights": "r"})]), [None, 3, ("raises", "NotMapped"), 2, 2])
+
+    def test_e13(self):
+        map_pages(self.s, self.p, 1)
+        for number in range(3):
+            write(self.s, self.p, 4 * number, 1)
+        lock(self.s, self.p, 0, 1)
+        read(self.s, self.p, 4)
+        self.assertEqual([position(self.s, (self.p, number)) for number in range(3)], [1, 2, 3])
 
 
 if __name__ == "__main__":

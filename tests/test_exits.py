@@ -1,13 +1,14 @@
 """Shares, and what exits free (6.1, 6.2)."""
 
+import copy
 import itertools
 import unittest
 from fractions import Fraction
 
 from pageclass.access import write
+from pageclass.charges import charge
 from pageclass.exits import exits_for, frees, least_exits, share
 from pageclass.files import create
-from pageclass.limits import charge_units
 from pageclass.sharing import count
 from pageclass.spaces import flag, map_pages, protect, unmap
 from pageclass.systems import System, fork, leave, now, processes, spawn
@@ -276,8 +277,10 @@ class ExitsFor(Case):
 
     def lessens(self, *some):
         """By how much the charge is less without some processes."""
-        rest = {process: table for process, table in self.s.tables.items() if process not in some}
-        return len(charge_units(self.s, self.s.tables)) - len(charge_units(self.s, rest))
+        rest = copy.deepcopy(self.s)
+        for process in some:
+            leave(rest, process)
+        return charge(self.s) - charge(rest)
 
     def test_untouched_pages(self):
         create(self.s, "f", 2)

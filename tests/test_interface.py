@@ -79,6 +79,25 @@ FUNCTIONS = {
         "in_memory": "(system, place)",
         "counts": "(system)",
     },
+    "locks": {
+        "lock": "(system, process, first, count)",
+        "unlock": "(system, process, first, count)",
+    },
+    "pictures": {
+        "stamp": "(system, place)",
+        "origin": "(system, place)",
+        "changed": "(system, process, since)",
+        "picture": "(system, process)",
+        "increment": "(system, process, since)",
+        "compose": "(picture, increment)",
+    },
+    "families": {
+        "family": "(system, some)",
+        "restore": "(system, family)",
+    },
+    "steps": {
+        "run": "(system, steps)",
+    },
     "charges": {
         "charge": "(system)",
         "reserve": "(system)",

@@ -3,17 +3,13 @@
 import unittest
 
 from pageclass.access import drop, need, read, write
-from pageclass.limits import charge_units
+from pageclass.charges import charge
 from pageclass.files import truncate
 from pageclass.spaces import flag, map_pages, move, protect, regions, unmap
 from pageclass.systems import System, fork, fresh, leave, now, spawn
 from support import give_file, give_lock, kept, refuses
 
 ZEROS = (0, 0, 0, 0)
-
-
-def charge(system):
-    return len(charge_units(system, system.tables))
 
 
 class Room(unittest.TestCase):
