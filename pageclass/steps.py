@@ -40,7 +40,9 @@ def step_functions():
 
 def is_step(value):
     """Whether a value is a step with as many arguments as it has by position, and perhaps some by name."""
-    if not isinstance(value, tuple) or len(value) == 0 or not is_word(value[0], BY_POSITION):
+    if not isinstance(value, tuple) or len(value) == 0:
+        return False
+    if not isinstance(value[0], str) or value[0] not in BY_POSITION:
         return False
     more = len(value) - 1 - BY_POSITION[value[0]]
     if more == 0:

@@ -2,11 +2,10 @@
 
 from pageclass import errors
 from pageclass.files import create, write_page
-from pageclass.frames import touch
-from pageclass.pages import Item, Page, with_flags
-from pageclass.rows import History, arrange_locked
+from pageclass.pages import Item, Page
+from pageclass.rows import History
 from pageclass.sharing import count
-from pageclass.stores import replace_pages, shown, shows_nothing
+from pageclass.stores import shown, shows_nothing
 from pageclass.systems import System
 
 VALUES = {
@@ -107,15 +106,6 @@ def give_file(system, name, contents):
 def kept(system):
     """How many private classes and written object pages there are."""
     return sum(count(system)[:2])
-
-
-def give_lock(system, process, number):
-    """Lock a page that holds a class."""
-    page = system.tables[process][number]
-    touch(system, page.held)
-    locked = tuple(sorted(page.flags + ("lock",)))
-    replace_pages(system, process, {number: with_flags(page, locked)})
-    arrange_locked(system.history)
 
 
 def name_of(item):

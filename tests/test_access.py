@@ -4,9 +4,10 @@ import unittest
 
 from pageclass.access import drop, need, read, write
 from pageclass.files import read_page, truncate
+from pageclass.locks import lock
 from pageclass.spaces import flag, map_pages, protect, regions, unmap
 from pageclass.systems import System, fork, leave, now, spawn
-from support import ODD, cells, give_file, give_lock, kept, refuses, refuses_range, touched
+from support import ODD, cells, give_file, kept, refuses, refuses_range, touched
 
 ZEROS = (0, 0, 0, 0)
 
@@ -286,8 +287,8 @@ class Dropping(Case):
         self.map(4)
         for number in (1, 2, 3):
             write(self.s, self.p, 4 * number, 1)
-        give_lock(self.s, self.p, 1)
-        give_lock(self.s, self.p, 2)
+        lock(self.s, self.p, 1, 1)
+        lock(self.s, self.p, 2, 1)
         refuses_range(self, self.s, self.p, drop)
         refuses(self, self.s, "NotMapped", 4, drop, self.p, 0, 5)
         refuses(self, self.s, "NotMapped", 511, drop, self.p, 511, 1)
@@ -346,7 +347,7 @@ class Touches(Case):
     def test_a_copy_of_a_locked_page_touches_the_new_class_once(self):
         self.map(1)
         write(self.s, self.p, 0, 1)
-        give_lock(self.s, self.p, 0)
+        lock(self.s, self.p, 0, 1)
         fork(self.s, self.p)
         write(self.s, self.p, 0, 2)
         self.assertEqual(len(self.s.history.touches), 4)

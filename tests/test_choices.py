@@ -4,7 +4,7 @@ import random
 import unittest
 
 from pageclass import errors
-from pageclass.access import drop, need, read, write
+from pageclass.access import drop, need, write
 from pageclass.choices import best_faults
 from pageclass.files import create, crash, drop_cache, read_page, truncate, write_page
 from pageclass.merging import merge

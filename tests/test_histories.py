@@ -14,6 +14,7 @@ from pageclass.spaces import flag, map_pages, unmap
 from pageclass.systems import System, fork, spawn
 from draws import Busy, Draw, View
 from model import Model
+from scene import Scene
 from steps import STEPS
 from support import ODD, refuses
 
@@ -25,27 +26,7 @@ WRONG = ODD + (None, 0, -1, 1000, HUGE, -HUGE)
 BY_FRAMES = (faults, swap_outs, write_backs, least_slots)
 
 
-class Case(unittest.TestCase):
-
-    def setUp(self):
-        self.make()
-
-    def make(self, **named):
-        """A process with eight pages, then four of a file f, then four of an object."""
-        self.s = System(**named)
-        self.p = spawn(self.s)
-        create(self.s, "f", 4)
-        map_pages(self.s, self.p, 8)
-        map_pages(self.s, self.p, 4, source=("file", "f"), shared=True)
-        map_pages(self.s, self.p, 4, shared=True)
-
-    def write(self, *numbers):
-        for number in numbers:
-            write(self.s, self.p, 4 * number, 1)
-
-    def read(self, *numbers):
-        for number in numbers:
-            read(self.s, self.p, 4 * number)
+class Case(Scene):
 
     def told(self, question, *numbers):
         return [question(self.s, frames) for frames in numbers]

@@ -5,9 +5,10 @@ import unittest
 from pageclass.access import drop, need, read, write
 from pageclass.charges import charge
 from pageclass.files import truncate
+from pageclass.locks import lock
 from pageclass.spaces import flag, map_pages, move, protect, regions, unmap
 from pageclass.systems import System, fork, fresh, leave, now, spawn
-from support import give_file, give_lock, kept, refuses
+from support import give_file, kept, refuses
 
 ZEROS = (0, 0, 0, 0)
 
@@ -292,7 +293,7 @@ class Strict(unittest.TestCase):
     def test_locked_pages_keep_the_order_of_errors(self):
         map_pages(self.s, self.p, 1)
         write(self.s, self.p, 0, 1)
-        give_lock(self.s, self.p, 0)
+        lock(self.s, self.p, 0, 1)
         refuses(self, self.s, "NoLock", 0, protect, self.p, 0, 1, "r")
         refuses(self, self.s, "NotMapped", 1, protect, self.p, 0, 2, "r")
 

@@ -10,37 +10,22 @@ from pageclass.locks import lock, unlock
 from pageclass.memory import counts, in_memory
 from pageclass.merging import merge
 from pageclass.pictures import origin, stamp
-from pageclass.positions import (at_position, disk_if, distances, faults, fits, least_frames, least_slots, position,
-                                 swap_outs, write_backs)
+from pageclass.positions import (disk_if, distances, faults, fits, least_frames, least_slots, position, swap_outs,
+                                 write_backs)
 from pageclass.sharing import next_write, same, users
 from pageclass.spaces import flag, map_pages, move, protect, regions, unmap
 from pageclass.systems import System, fork, fresh, leave, now, spawn
+from scene import Scene
 from support import kept, refuses, refuses_process, refuses_range
 
 ONES = (1, 1, 1, 1)
 FILE_0 = ("file", "f", 0)
 
 
-class Case(unittest.TestCase):
+class Case(Scene):
 
-    def setUp(self):
-        self.make()
-
-    def make(self, **named):
-        """A process with eight pages, then four private pages of a file f with four pages."""
-        self.s = System(**named)
-        self.p = spawn(self.s)
-        create(self.s, "f", 4)
-        map_pages(self.s, self.p, 8)
-        map_pages(self.s, self.p, 4, source=("file", "f"))
-
-    def write(self, *numbers):
-        for number in numbers:
-            write(self.s, self.p, 4 * number, 1)
-
-    def read(self, *numbers):
-        for number in numbers:
-            read(self.s, self.p, 4 * number)
+    shared_file = False
+    has_object = False
 
     def lock(self, *numbers):
         for number in numbers:
@@ -49,18 +34,6 @@ class Case(unittest.TestCase):
     def unlock(self, *numbers):
         for number in numbers:
             unlock(self.s, self.p, number, 1)
-
-    def row(self):
-        """What the positions have; a private class is the list of the pages of the first process that hold it."""
-        told = []
-        for number in range(1, 30):
-            what = at_position(self.s, number)
-            if what is not None and what[0] == "private":
-                what = [page for process, page in what[1] if process == self.p]
-            told.append(what)
-        while told and told[-1] is None:
-            told.pop()
-        return told
 
     def flags(self, number):
         return [region[5 + 1] for region in regions(self.s, self.p) if region[0] <= number < region[0] + region[1]][0]

@@ -2,37 +2,21 @@
 
 import unittest
 
-from pageclass.access import drop, need, read, write
+from pageclass.access import drop, need, write
 from pageclass.files import create, crash, disk, drop_cache, read_page, sync, truncate, write_page
 from pageclass.memory import counts, in_memory
 from pageclass.merging import merge
 from pageclass.positions import position
-from pageclass.spaces import flag, map_pages, unmap
-from pageclass.systems import System, fork, fresh, spawn
+from pageclass.spaces import flag, unmap
+from pageclass.systems import System, fork, fresh
+from scene import Scene
 from support import asks_place, refuses
 
 ONES = (1, 1, 1, 1)
 ZEROS = (0, 0, 0, 0)
 
 
-class Case(unittest.TestCase):
-
-    def make(self, **named):
-        """A process with eight pages, then four of a file f, then four of an object."""
-        self.s = System(**named)
-        self.p = spawn(self.s)
-        create(self.s, "f", 4)
-        map_pages(self.s, self.p, 8)
-        map_pages(self.s, self.p, 4, source=("file", "f"), shared=True)
-        map_pages(self.s, self.p, 4, shared=True)
-
-    def write(self, *numbers):
-        for number in numbers:
-            write(self.s, self.p, 4 * number, 1)
-
-    def read(self, *numbers):
-        for number in numbers:
-            read(self.s, self.p, 4 * number)
+class Case(Scene):
 
     def present(self):
         return [number for number in range(16) if in_memory(self.s, (self.p, number))]

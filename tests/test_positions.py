@@ -8,48 +8,14 @@ from pageclass.merging import merge
 from pageclass.positions import at_position, distances, fits, position, working
 from pageclass.spaces import flag, map_pages, move, protect, unmap
 from pageclass.systems import System, fork, fresh, leave, spawn
+from scene import Scene
 from support import ODD, asks_place, refuses
 
 ONES = (1, 1, 1, 1)
 HUGE = 10 ** 3000
 
 
-class Case(unittest.TestCase):
-
-    def setUp(self):
-        """A process with eight pages, then four of a file f, then four of an object."""
-        self.make()
-
-    def make(self, **named):
-        self.s = System(**named)
-        self.p = spawn(self.s)
-        create(self.s, "f", 4)
-        map_pages(self.s, self.p, 8)
-        map_pages(self.s, self.p, 4, source=("file", "f"), shared=True)
-        map_pages(self.s, self.p, 4, shared=True)
-
-    def write(self, *numbers):
-        for number in numbers:
-            write(self.s, self.p, 4 * number, 1)
-
-    def read(self, *numbers):
-        for number in numbers:
-            read(self.s, self.p, 4 * number)
-
-    def row(self):
-        """What the positions have; a private class is the list of the pages of the first process that hold it."""
-        told = []
-        for number in range(1, 40):
-            what = at_position(self.s, number)
-            if what is not None and what[0] == "private":
-                what = [page for process, page in what[1] if process == self.p]
-            told.append(what)
-        while told and told[-1] is None:
-            told.pop()
-        return told
-
-
-class Touches(Case):
+class Touches(Scene):
     """What touches an item (7.1)."""
 
     def test_reads_and_writes(self):
@@ -139,7 +105,7 @@ class Touches(Case):
         self.assertEqual(distances(self.s), [None])
 
 
-class Positions(Case):
+class Positions(Scene):
     """Which position an item has (7.2)."""
 
     def test_the_last_touched_item_is_the_first(self):
@@ -338,12 +304,12 @@ class Positions(Case):
         self.assertEqual((distances(System()), fits(System(), []), working(System(), 5)), ([], (1, None), 0))
 
 
-class Fits(Case):
+class Fits(Scene):
     """The numbers of frames with just these faults (7.4)."""
 
     def setUp(self):
         """The distances are None, None, None, 1, 3, 3, 2, None, 4."""
-        Case.setUp(self)
+        Scene.setUp(self)
         self.write(0, 1, 2, 2, 0, 1, 0, 3, 2)
 
     def log(self, *faults):
@@ -428,7 +394,7 @@ class Fits(Case):
         self.assertEqual(distances(self.s), [None, None, None, 1, 3, 3, 2, None, 4])
 
 
-class Working(Case):
+class Working(Scene):
     """How many items the last touches touched (7.4)."""
 
     def test_the_last_touches(self):

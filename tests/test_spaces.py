@@ -3,9 +3,10 @@
 import unittest
 
 from pageclass.access import read, write
+from pageclass.locks import lock
 from pageclass.spaces import flag, gap, map_pages, move, protect, regions, unmap, widest
 from pageclass.systems import System, fork, fresh, leave, spawn
-from support import ODD, cells, give_file, give_lock, kept, refuses, refuses_range
+from support import ODD, cells, give_file, kept, refuses, refuses_range
 
 ZEROS = (0, 0, 0, 0)
 
@@ -87,7 +88,7 @@ class Mapping(Case):
         self.map(1)
         write(self.s, self.p, 0, 1)
         flag(self.s, self.p, 0, 1, merge=True, stay=True, wipe=True)
-        give_lock(self.s, self.p, 0)
+        lock(self.s, self.p, 0, 1)
         self.map(1, at=0)
         self.assertEqual(self.regions(), [plain(0, 1)])
 
@@ -289,7 +290,7 @@ class Unmapping(Case):
     def test_locked_pages(self):
         self.map(1)
         write(self.s, self.p, 0, 1)
-        give_lock(self.s, self.p, 0)
+        lock(self.s, self.p, 0, 1)
         unmap(self.s, self.p, 0, 1)
         self.assertEqual(kept(self.s), 0)
 
@@ -329,8 +330,8 @@ class Protecting(Case):
         self.map(4)
         write(self.s, self.p, 4, 1)
         write(self.s, self.p, 8, 1)
-        give_lock(self.s, self.p, 1)
-        give_lock(self.s, self.p, 2)
+        lock(self.s, self.p, 1, 1)
+        lock(self.s, self.p, 2, 1)
         for rights in ("none", "r"):
             refuses(self, self.s, "NoLock", 1, protect, self.p, 0, 4, rights)
             refuses(self, self.s, "NoLock", 2, protect, self.p, 2, 1, rights)
@@ -356,7 +357,7 @@ class Flagging(Case):
         self.map(1)
         write(self.s, self.p, 0, 1)
         flag(self.s, self.p, 0, 1, wipe=True)
-        give_lock(self.s, self.p, 0)
+        lock(self.s, self.p, 0, 1)
         flag(self.s, self.p, 0, 1, stay=True)
         flag(self.s, self.p, 0, 1, merge=True)
         self.assertEqual(self.regions()[0][6], ("lock", "merge", "stay", "wipe"))
@@ -436,8 +437,8 @@ class Moving(Case):
         self.map(2)
         write(self.s, self.p, 0, 1)
         write(self.s, self.p, 4, 2)
-        give_lock(self.s, self.p, 0)
-        give_lock(self.s, self.p, 1)
+        lock(self.s, self.p, 0, 1)
+        lock(self.s, self.p, 1, 1)
         move(self.s, self.p, 0, 1, 1)
         self.assertEqual(self.regions(), [plain(1, 1, flags=("lock",))])
         self.assertEqual(read(self.s, self.p, 4), 1)

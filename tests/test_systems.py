@@ -4,9 +4,10 @@ import unittest
 
 from pageclass.access import drop, need, read, write
 from pageclass.errors import NoSystem
+from pageclass.locks import lock
 from pageclass.spaces import flag, gap, map_pages, move, protect, regions, unmap, widest
 from pageclass.systems import System, fork, fresh, leave, now, processes, spawn
-from support import ODD, cells, give_lock, kept, refuses, refuses_process
+from support import ODD, cells, kept, refuses, refuses_process
 
 
 class Parameters(unittest.TestCase):
@@ -120,7 +121,7 @@ class Processes(unittest.TestCase):
             p = spawn(self.s)
             map_pages(self.s, p, 1)
             write(self.s, p, 0, 1)
-            give_lock(self.s, p, 0)
+            lock(self.s, p, 0, 1)
             step(self.s, p)
             self.assertEqual(kept(self.s), 0)
 
@@ -257,7 +258,7 @@ class Forks(unittest.TestCase):
         map_pages(self.s, self.p, 1)
         write(self.s, self.p, 0, 9)
         flag(self.s, self.p, 0, 1, merge=True, wipe=True)
-        give_lock(self.s, self.p, 0)
+        lock(self.s, self.p, 0, 1)
         c = fork(self.s, self.p)
         self.assertEqual(regions(self.s, c)[0][6], ("merge", "wipe"))
         self.assertEqual(regions(self.s, self.p)[0][6], ("lock", "merge", "wipe"))
