@@ -84,15 +84,13 @@ def faults_of_best(history, frames):
     keeping = Keeping(following_touches(history))
     found = 0
     for at, item in enumerate(history.touches):
-        locked = item in keeping.locked
-        if at in keeping.kept:
-            del keeping.kept[at]
-        elif history.distances[at] is not None and not locked:
-            found += 1
-        others = len(keeping.locked) - 1 if locked else len(keeping.locked)
-        let_leave(keeping, frames - 1 - others)
         keeping.ends[item] = keeping.following[at]
-        if not locked:
+        if item not in keeping.locked:
+            if at in keeping.kept:
+                del keeping.kept[at]
+            elif history.distances[at] is not None:
+                found += 1
+            let_leave(keeping, frames - 1 - len(keeping.locked))
             keep(keeping, item)
         change_locks(keeping, changes.get(at + 1, []))
     return found

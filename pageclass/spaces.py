@@ -2,8 +2,8 @@
 
 from pageclass.checks import file_of, is_integer, is_word, numbers_of, require, require_mapped
 from pageclass.checks import require_unlocked, table_of
-from pageclass.limits import require_charge
 from pageclass.frames import this_step
+from pageclass.limits import require_charge
 from pageclass.pages import FLAGS, PAGES, RIGHTS, Page, attributes, with_flags, with_rights, with_stamp
 from pageclass.stores import end_step, replace_pages
 

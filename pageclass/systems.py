@@ -2,8 +2,8 @@
 
 from pageclass.checks import is_integer, table_of
 from pageclass.errors import NoSystem
-from pageclass.limits import require_charge
 from pageclass.frames import this_step
+from pageclass.limits import require_charge
 from pageclass.pages import with_held, with_lock, with_stamp
 from pageclass.rows import History
 from pageclass.stores import end_step, replace_pages

@@ -230,6 +230,15 @@ class Origins(Case):
             merge(self.s)
             self.assertEqual(self.origins(0, 1, first), [at] * 3)
 
+    def test_merge_and_none_of_a_class_that_goes(self):
+        flag(self.s, self.p, 0, 8, merge=True)
+        lock(self.s, self.p, 0, 2)
+        unlock(self.s, self.p, 0, 2)
+        write(self.s, self.p, 8, 0)
+        at = now(self.s)
+        self.assertEqual(merge(self.s), 2)
+        self.assertEqual(self.origins(0, 1, 2), [at] * 3)
+
     def test_truncate(self):
         self.write(8, 10)
         truncate(self.s, "f", 2)
