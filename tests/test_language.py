@@ -1,6 +1,7 @@
-"""What can be seen at a glance of the rules for the package's code (LANGUAGE.md: L1, L2, L6, L8, L10, L14)."""
+"""What can be seen at a glance of the rules for the package's code (LANGUAGE.md: L1, L2, L6, L8, L10, L14, L15, L25)."""
 
 import ast
+import builtins
 import os
 import unittest
 
@@ -12,6 +13,9 @@ BUILTINS = ("len range enumerate zip min max sum abs sorted reversed int str boo
             "super type getattr hasattr setattr").split()
 LIBRARY = (("math", "gcd"), ("itertools", "combinations"), ("heapq", "heapify"), ("heapq", "heappop"),
            ("heapq", "heappush"), ("heapq", "heappushpop"))
+METHODS = ("append clear copy count endswith extend find get index insert isalnum isalpha isdigit islower isspace isupper "
+           "items join keys ljust lower lstrip partition pop remove replace reverse rfind rjust rpartition rsplit rstrip "
+           "setdefault split splitlines startswith strip update upper values zfill bit_length").split()
 BARRED = (ast.AsyncFunctionDef, ast.AsyncFor, ast.AsyncWith, ast.Await, ast.Global, ast.Import)
 
 
@@ -58,6 +62,40 @@ class Language(unittest.TestCase):
                     self.assertIn(node.id, BUILTINS, name)
                 if isinstance(node, ast.Constant):
                     self.assertNotIsInstance(node.value, (float, complex), name)
+
+    def test_methods_of_builtin_values(self):
+        """The package's classes have no methods but __init__, so all methods are those of builtin values."""
+        for name, text in sources():
+            for node in ast.walk(ast.parse(text)):
+                if isinstance(node, ast.Call) and isinstance(node.func, ast.Attribute):
+                    self.assertIn(node.func.attr, METHODS, (name, node.lineno))
+                    self.assertEqual(node.keywords, [], (name, node.lineno))
+
+    def test_lists_and_dicts_of_the_module_level_are_not_passed_on(self):
+        for name, text in sources():
+            tree = ast.parse(text)
+            kept = [node.targets[0].id for node in tree.body if isinstance(node, ast.Assign)
+                    and isinstance(node.value, (ast.List, ast.Dict))]
+            for node in ast.walk(tree):
+                if isinstance(node, ast.Call):
+                    passed = [each.id for each in node.args if isinstance(each, ast.Name)]
+                    self.assertFalse(set(passed) & set(kept), (name, node.lineno))
+
+    def test_no_name_of_an_import_a_class_or_a_builtin_is_used_again(self):
+        for name, text in sources():
+            tree = ast.parse(text)
+            taken = set(dir(builtins))
+            for node in tree.body:
+                if isinstance(node, ast.ImportFrom):
+                    taken |= {alias.name for alias in node.names}
+                elif isinstance(node, ast.ClassDef):
+                    taken.add(node.name)
+            for node in ast.walk(tree):
+                if isinstance(node, ast.FunctionDef) and node.name != "__init__":
+                    used = {each.arg for each in ast.walk(node) if isinstance(each, ast.arg)} | {node.name}
+                    used |= {each.id for each in ast.walk(node) if isinstance(each, ast.Name)
+                             and isinstance(each.ctx, ast.Store)}
+                    self.assertFalse(used & taken, (name, node.name))
 
     def test_every_function_has_a_docstring(self):
         for name, text in sources():
